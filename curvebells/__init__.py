@@ -1,0 +1,1 @@
+"""Curvebells: bells of things that move along curves, in their exact order."""
