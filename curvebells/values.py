@@ -37,6 +37,13 @@ def is_name_row(value):
     return is_sequence(value) and all([is_name(name) for name in value])
 
 
+def is_lot_below(value, many):
+    """Whether any value is a sequence of ascending unlike numbers, each below this one."""
+    if not is_sequence(value) or not all([is_number(number) and number < many for number in value]):
+        return False
+    return all([one < other for one, other in zip(value, value[1:])])
+
+
 def as_lot(values):
     """The unlike ones of some strings, or of some integers, ascending."""
     return tuple(sorted(set(values)))

@@ -1,6 +1,7 @@
-"""The examples of the document, as they stand there."""
+"""The examples of the document, as they stand there, and those of README.md."""
 
 import doctest
+import pathlib
 import unittest
 
 RATIOS_AND_CUTS = """
@@ -17,6 +18,61 @@ RATIOS_AND_CUTS = """
     (1, 2)
     >>> cuts_hold((2, -2, 1), (0, 1), None, ((1, 1),)), cut_count((2, -2, 1), (0, 1), None, ((1, 1),))
     (True, 0)
+"""
+
+PLACES = """
+    >>> from curvebells.places import moments_of, place_in, place_order, place_sides, place_sign, ratio_of
+    >>> from curvebells.places import gathered_places, ratio_place, simplest_between, whole_times
+    >>> from curvebells.papers import place_paper_holds, seat_holds
+    >>> root = ((-2, 0, 1), 2)
+    >>> moments_of((0, -2, 0, 1)), place_order(((0, -2, 0, 1), 3), root), ratio_of(((-1, 0, 4), 2))
+    ((((0, -2, 0, 1), 3),), 0, (1, 2))
+    >>> whole_times(root, 1000), simplest_between(root, ratio_place((3, 2))), place_sign((-3, 2), root)
+    (1414, (10, 7), -1)
+    >>> place_sides((4, 0, -4, 0, 1), root), place_in((4, 0, -4, 0, 1), root)
+    ((1, 1), ((-2, 0, 1), 2))
+    >>> gathered_places((root, ((-1, 1), 1), ((0, -2, 0, 1), 3), ((-2, 0, 1), 1)))
+    ((3,), (1,), (0, 2))
+    >>> seat = ((1, 1), (3, 2), ())
+    >>> seat_holds(root, seat), place_paper_holds(root, ratio_place((3, 2)), ("less", seat, ((3, 2), (3, 2), ())))
+    (True, True)
+"""
+
+TABLES = """
+    >>> from curvebells.tables import Table, inner_place, sign_row
+    >>> from curvebells.told import least_degree, told_curves, told_fault
+    >>> table = Table([(-2, 0, 1), (-1, 1)])
+    >>> table.moments, table.signs
+    ((((-1, 1), 1), ((-2, 0, 1), 2)), ((-1, -1), (-1, 0), (-1, 1), (0, 1), (1, 1)))
+    >>> sign_row(table, 0), inner_place(table, 2), inner_place(table, 4)
+    ((-1, -1, -1, 0, 1), ((-4, 3), 1), ((-2, 1), 1))
+"""
+
+HALLS = """
+    >>> from curvebells.halls import Hall
+    >>> hall = Hall.read("thing cat\\nway run 0 0 1\\nthing dog\\nway walk 0 1\\nbell ding meet cat dog any\\nbell dong at cat 2 any")
+    >>> hall.first
+    (0, 0)
+    >>> from curvebells.rules import Ruled
+    >>> hall = Hall.read("thing cat\\nway run 0 1\\nway back 10 -1\\nbell tick at cat 3 any\\nbell tock at cat 6 any")
+    >>> ruled = Ruled.read(hall, "when tick turn cat back\\nwhen tock turn cat run")
+    >>> ruled.rules
+    (('tick', (), 'cat', 'back'), ('tock', (), 'cat', 'run'))
+"""
+
+HANDLES = """
+    >>> from curvebells.branches import graph_limits, graph_turns
+    >>> from curvebells.halls import Hall
+    >>> from curvebells.handles import Handle
+    >>> from curvebells.places import place_order
+    >>> things = [("cat", (("run", (1, 0, 1)),)), ("dog", (("hop", (0, 0, 1)),))]
+    >>> hall = Hall(things, [("ding", "at", ("cat", 0), "any"), ("dong", "meet", ("cat", "dog"), "any")])
+    >>> handle = Handle(hall, "cat", 1)
+    >>> handle.faces, graph_limits(handle, 1)
+    (((0, (1, 0, 1), 1, 1), (1, (1,), 1, 1)), (-1, (0, 1)))
+    >>> cube = Handle(Hall([("cat", (("run", (1, 0, 0, 1)),))], [("ding", "at", ("cat", 0), "any")]), "cat", 1)
+    >>> [place_order(one, ((n, 0, 0, m), 1)) for one, n, m in zip(graph_turns(cube, 0)[0], (-1, 27), (2, 4))]
+    [0, 0]
 """
 
 TOLD = """
@@ -39,9 +95,19 @@ def suite_of(name, text):
     return doctest.DocTestCase(test)
 
 
+def readme():
+    path = pathlib.Path(__file__).resolve().parent.parent / "README.md"
+    return path.read_text(encoding="utf-8")
+
+
 def load_tests(loader, tests, pattern):
     suite = unittest.TestSuite()
+    suite.addTest(suite_of("README.md", readme()))
     suite.addTest(suite_of("ratios and cuts", RATIOS_AND_CUTS))
+    suite.addTest(suite_of("places", PLACES))
+    suite.addTest(suite_of("tables", TABLES))
+    suite.addTest(suite_of("halls", HALLS))
+    suite.addTest(suite_of("handles", HANDLES))
     suite.addTest(suite_of("told", TOLD))
     suite.addTest(suite_of("wishes", WISHES))
     return suite

@@ -18,6 +18,20 @@ FUNCTIONS = {
     "cuts": """primitive_curve(f) common_curve(f, g) quotient_curve(f, g) plain_curve(f) curve_parts(f)
         sign_changes(f, low, high) cuts_of(f, low=None, high=None) cuts_hold(f, low, high, value)
         cut_count(f, low, high, cuts) count_zeros(f, low=None, high=None)""",
+    "halls": """thing_number(hall, name) bell_number(hall, name) way_number(hall, thing, way)
+        followed_curves(hall, ways) faces_of(hall, ways, number) hums_of(hall, ways) mode_fits(mode, ahead, behind)
+        joined_halls(one, other) with_bells(hall, bells) rewound_hall(hall, clock) scaled_hall(hall, a, b)""",
+    "places": """need_place(value) is_place(value) places_of(f) moments_of(f) ratio_place(one) place_order(one, other)
+        ratio_against(place, one) place_sign(f, place) place_sides(f, place) zero_times(f, place) place_in(f, place)
+        whole_times(place, n=1) ratio_of(place) place_moved(place, n) simplest_between(one=None, other=None)
+        gathered_places(places)""",
+    "branches": """hum_worth(handle, f) worth_at(handle, f, moment) graph_limits(handle, f) graph_turns(handle, f)
+        graph_branches(handle, f) face_modes(handle, f, worth)""",
+    "papers": """seat_of(place, n=1) seat_holds(place, value) place_paper(one, other)
+        place_paper_holds(one, other, value) sign_paper(f, place) sign_paper_holds(f, place, value)""",
+    "tables": """sign_row(table, number) zero_cells(table, number) inner_place(table, cell) time_cell(table, time)
+        joined_tables(one, other) only_curves(table, numbers) laid_cells(fine, coarse) turned_curve(curve, degree)
+        table_paper(curves) table_holds(curves, value)""",
     "told": "told_fault(rows) told_curves(rows) least_degree(row)",
 }
 
@@ -27,6 +41,10 @@ CLASSES = {
         "takes": "(self, tale)", "__eq__": "(self, other)",
     },
     ("stairs", "Stair", "(rows)"): {"__str__": "(self)", "__eq__": "(self, other)"},
+    ("halls", "Hall", "(things, bells)"): {"text": "(self)"},
+    ("handles", "Handle", "(hall, thing, power)"): {"hall_at": "(self, one)"},
+    ("rules", "Ruled", "(hall, rules=())"): {"text": "(self)", "ordered": "(self, order)", "only": "(self, lot)"},
+    ("tables", "Table", "(curves, marks=())"): {"__len__": "(self)"},
 }
 
 ERRORS = {
@@ -60,10 +78,12 @@ class TestInterface(unittest.TestCase):
                 self.assertIn(method, vars(made))
                 self.assertEqual(str(inspect.signature(vars(made)[method])), told)
 
-    def test_stair_read(self):
-        made = module_of("stairs").Stair
-        self.assertIn("read", vars(made))
-        self.assertEqual(str(inspect.signature(made.read)), "(text)")
+    def test_read(self):
+        for name, word, parameters in (("stairs", "Stair", "(text)"), ("halls", "Hall", "(text)"),
+                                       ("rules", "Ruled", "(hall, text)")):
+            made = getattr(module_of(name), word)
+            self.assertIn("read", vars(made))
+            self.assertEqual(str(inspect.signature(made.read)), parameters)
 
 
 class TestErrors(unittest.TestCase):
