@@ -83,12 +83,10 @@ def rest_row(row, curve):
 
 
 def determinant(rows):
-    """The determinant of a square of curves, but for its sign."""
+    """The determinant, not (), of a square of curves, but for its sign."""
     last = (1,)
     while len(rows) > 1:
         chosen = [row for row in rows if row[0]]
-        if not chosen:
-            return ()
         rows = [row for row in rows if row[0]][1:] + [row for row in rows if not row[0]]
         # Each step leaves curves that the head of the row chosen ahead divides without a rest.
         rows = [lessened_row(row, chosen[0], last) for row in rows]
@@ -111,14 +109,13 @@ def graph_limits(handle, f):
     if hum_worth(handle, f) is not None:
         return None
     powers = [at for at, integer in enumerate(a) if integer != 0]
-    return (limit_by(a, c, j, powers[0], powers[0] < j), limit_by(a, c, j, powers[-1], powers[-1] > j))
-
-
-def limit_by(a, c, j, power, is_boundless):
-    """What -a / (c * t ** j) comes to where this power of a outdoes all others."""
-    if is_boundless:
-        return -sign_of(a[power]) * sign_of(c)
-    return ratio_by(-integer_at(a, j) if power == j else 0, c)
+    first, last = powers[0], powers[-1]
+    # Where no power outdoes j, what is left is the part of the power j, if there is one.
+    level = ratio_by(-integer_at(a, j), c)
+    return (
+        -sign_of(a[first]) * sign_of(c) if first < j else level,
+        -sign_of(a[last]) * sign_of(c) if last > j else level,
+    )
 
 
 def rise_curve(a, c, j):

@@ -183,8 +183,8 @@ def is_same_zero(one, other):
 
 
 def is_parted(curve, low, high):
-    """Whether a curve has unlike signs at two ratios; a constant has not."""
-    return len(curve) > 1 and curve_sign(curve, low) != curve_sign(curve, high)
+    """Whether a curve has unlike signs at two ratios."""
+    return curve_sign(curve, low) != curve_sign(curve, high)
 
 
 def ratio_against(place, one):
@@ -212,22 +212,31 @@ def gathered_places(places):
 def gathered_zeros(zeros):
     """Lists of the numbers, in a sequence, of zeros that are the same: the least zero first."""
     groups = []
+    unlike = []
     for number, zero in enumerate(zeros):
-        low = 0
-        high = len(groups)
-        while low < high:
-            middle = (low + high) // 2
-            order = zero_order(zero, zeros[groups[middle][0]])
-            if order == 0:
-                groups[middle].append(number)
-                break
-            if order < 0:
-                high = middle
-            else:
-                low = middle + 1
+        at, is_there = zero_among(zero, unlike)
+        if is_there:
+            groups[at].append(number)
         else:
-            groups.insert(low, [number])
+            groups.insert(at, [number])
+            unlike.insert(at, zero)
     return groups
+
+
+def zero_among(zero, zeros):
+    """How many of ascending unlike zeros are less than a zero, and whether the next one is the same."""
+    low = 0
+    high = len(zeros)
+    while low < high:
+        middle = (low + high) // 2
+        order = zero_order(zero, zeros[middle])
+        if order == 0:
+            return (middle, True)
+        if order < 0:
+            high = middle
+        else:
+            low = middle + 1
+    return (low, False)
 
 
 def place_sign(f, place):
@@ -246,8 +255,6 @@ def zero_sign(f, zero):
 
 def is_nought_at(f, zero):
     """Whether any curve is 0 at a zero of a plain one."""
-    if len(f) == 0:
-        return True
     if zero.low == zero.high:
         return curve_sign(f, zero.low) == 0
     return is_parted(common_curve(f, zero.curve), zero.low, zero.high)
@@ -282,12 +289,9 @@ def slope_not_nought(f, zero):
 
 def place_in(f, place):
     """The place of the same number by the plain curve of f, not (), or None if f is not 0 there."""
-    zero = zero_of(place)
-    if not is_nought_at(f, zero):
-        return None
     plain = plain_curve(f)
-    same = [other for other in zeros_of(plain) if zero_order(zero, other) == 0]
-    return (plain, same[0].number)
+    ahead, is_there = zero_among(zero_of(place), zeros_of(plain))
+    return (plain, ahead + 1) if is_there else None
 
 
 def whole_times(place, n=1):

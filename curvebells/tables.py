@@ -5,7 +5,7 @@ from curvebells.cuts import NOUGHT, common_curve, cut_count, cuts_hold, cuts_of,
 from curvebells.errors import InvalidCurve, InvalidPlace, InvalidSize
 from curvebells.papers import shows_zero
 from curvebells.places import gathered_zeros, is_moment, is_plain, ratio_place, simplest_between, zero_against
-from curvebells.places import zero_of, zero_order, zeros_of
+from curvebells.places import zero_among, zero_of, zeros_of
 from curvebells.ratios import is_ratio, middle_ratio, ratio_order, simplest_ratio
 from curvebells.values import is_lot_below, is_number, is_sequence
 
@@ -128,19 +128,8 @@ def time_cell(table, time):
     """The cell in which a moment lies; any value as the moment."""
     if not is_moment(time):
         raise InvalidPlace(0)
-    zero = zero_of(time)
-    low = 0
-    high = len(table.moments)
-    while low < high:
-        middle = (low + high) // 2
-        order = zero_order(zero, zero_of(table.moments[middle]))
-        if order == 0:
-            return 2 * middle + 1
-        if order < 0:
-            high = middle
-        else:
-            low = middle + 1
-    return 2 * low
+    ahead, is_there = zero_among(zero_of(time), [zero_of(moment) for moment in table.moments])
+    return 2 * ahead + 1 if is_there else 2 * ahead
 
 
 def joined_tables(one, other):

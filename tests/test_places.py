@@ -18,6 +18,7 @@ from tests.helpers import (
 )
 
 ROOT = ((-2, 0, 1), 2)
+HALF = ((-1, 0, 4), 2)
 NEAR_ONE = (times((-10 ** 6, 10 ** 6 + 1), (-10 ** 6, 10 ** 6 + 2)), 2)
 # Two zeros that no ten figures tell apart: near 1 / 10 ** 5.
 CLOSE = (-2, 4 * 10 ** 5, -2 * 10 ** 10, 0, 0, 0, 0, 1)
@@ -211,6 +212,9 @@ class TestSigns(BellCase):
         self.assert_same(place_in(f=(0, 4, 0, -2), place=ROOT), ((0, -2, 0, 1), 3))
         self.assertIsNone(place_in((-3, 2), ROOT))
         self.assertIsNone(place_in((5,), ROOT))
+        self.assert_same(place_in((1, -2), HALF), ((-1, 2), 1))
+        self.assert_same(place_in((1, -4, 4), HALF), ((-1, 2), 1))
+        self.assert_same(place_in((-1, 0, 4), ((-1, 2), 1)), HALF)
         rng = source(26)
         for _ in range(150):
             place, zero = some_known_place(rng)
@@ -268,6 +272,16 @@ class TestWholes(BellCase):
         self.assertIsNone(simplest_between(ROOT, ((0, -2, 0, 1), 3)))
         self.assertIsNone(simplest_between(one=ROOT, other=((-1, 1), 1)))
         self.assert_same(simplest_between((CLOSE, 1), (CLOSE, 2)), (1, 10 ** 5))
+        # The simplest ratio nearby is the end itself.
+        self.assert_same(simplest_between(((-1, 0, 4), 2), ((-3, 4), 1)), (2, 3))
+        self.assert_same(simplest_between(((-1, 4), 1), ((-1, 0, 4), 2)), (1, 3))
+        self.assert_same(simplest_between(((-1, 0, 4), 1), ((-1, 0, 9), 1)), (-2, 5))
+
+    def test_simplest_between_far_places(self):
+        far = (-(10 ** 12 - 1), 0, 1)
+        self.assert_same(self.assert_soon(1, simplest_between, (far, 2)), (10 ** 6, 1))
+        self.assert_same(self.assert_soon(1, simplest_between, None, (far, 1)), (-10 ** 6, 1))
+        self.assert_same(self.assert_soon(1, simplest_between, (far, 2), ((-10 ** 6, 1), 1)), (2 * 10 ** 12 - 1, 2 * 10 ** 6))
 
     def test_simplest_between_ratios(self):
         rng = source(29)
