@@ -116,11 +116,16 @@ def inner_place(table, cell):
     """A place within a cell; any value as the cell."""
     if not is_number(cell) or cell >= len(table):
         raise InvalidSize("cell")
+    return cell_place(table.moments, cell)
+
+
+def cell_place(moments, cell):
+    """A place within a cell that ascending moments make."""
     after = cell // 2
     if cell & 1 == 1:
-        return table.moments[after]
-    low = table.moments[after - 1] if after > 0 else ratio_place(NOUGHT)
-    high = table.moments[after] if after < len(table.moments) else None
+        return moments[after]
+    low = moments[after - 1] if after > 0 else ratio_place(NOUGHT)
+    high = moments[after] if after < len(moments) else None
     return ratio_place(simplest_between(low, high))
 
 

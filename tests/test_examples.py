@@ -48,6 +48,32 @@ TABLES = """
     ((-1, -1, -1, 0, 1), ((-4, 3), 1), ((-2, 1), 1))
 """
 
+OVERVIEW = """
+    >>> from curvebells.halls import Hall
+    >>> from curvebells.rows import ring_row
+    >>> hall = Hall.read("thing cat\\nway run 0 0 1\\nthing dog\\nway walk 0 1\\nbell ding meet cat dog any\\nbell dong at cat 2 any")
+    >>> ring_row(hall, hall.first)
+    ((((0, -1, 1), 2), ('ding',)), (((-2, 0, 1), 2), ('dong',)))
+"""
+
+KNOTS = """
+    >>> from curvebells.knots import knot_behind, knot_of
+    >>> tree = knot_of([(), (1, -2, 1), (-1, 1)], ((-1, 1), 1))
+    >>> tree, knot_behind(tree)
+    ((1, ((2,), (2, ((0,), (1,))))), ((0,), (1,), (2,)))
+"""
+
+SAYINGS = """
+    >>> from curvebells.halls import Hall
+    >>> from curvebells.places import ratio_place
+    >>> from curvebells.sayings import Band, first_time, holds_at
+    >>> from curvebells.stairs import Stair
+    >>> band = Band(Hall.read("thing cat\\nway run 0 0 1\\nbell ding at cat 1 any\\nbell dong at cat 2 any"))
+    >>> calm = Stair([("rings", "dong"), ("not", 0), ("rings", "ding"), ("since", 1, 2)])
+    >>> [holds_at(band, calm, ratio_place(one)) for one in ((1, 1), (7, 5), (3, 2))], first_time(band, calm)[1]
+    ([False, True, False], False)
+"""
+
 HALLS = """
     >>> from curvebells.halls import Hall
     >>> hall = Hall.read("thing cat\\nway run 0 0 1\\nthing dog\\nway walk 0 1\\nbell ding meet cat dog any\\nbell dong at cat 2 any")
@@ -106,6 +132,9 @@ def load_tests(loader, tests, pattern):
     suite.addTest(suite_of("ratios and cuts", RATIOS_AND_CUTS))
     suite.addTest(suite_of("places", PLACES))
     suite.addTest(suite_of("tables", TABLES))
+    suite.addTest(suite_of("overview", OVERVIEW))
+    suite.addTest(suite_of("knots", KNOTS))
+    suite.addTest(suite_of("sayings", SAYINGS))
     suite.addTest(suite_of("halls", HALLS))
     suite.addTest(suite_of("handles", HANDLES))
     suite.addTest(suite_of("told", TOLD))

@@ -222,7 +222,8 @@ class TestNodes(unittest.TestCase):
                 if isinstance(node, (ast.For, ast.comprehension)):
                     fine.add(id(node.iter))
                 if isinstance(node, ast.Call) and isinstance(node.func, ast.Name):
-                    if node.func.id in ("list", "tuple", "dict", "sorted", "sum", "any", "all", "enumerate", "zip"):
+                    if node.func.id in ("list", "tuple", "dict", "sorted", "sum", "any", "all", "enumerate", "zip",
+                                        "combinations", "product", "permutations"):
                         fine |= {id(one) for one in node.args}
             for node in ast.walk(tree):
                 if isinstance(node, ast.Call):

@@ -33,6 +33,22 @@ FUNCTIONS = {
         joined_tables(one, other) only_curves(table, numbers) laid_cells(fine, coarse) turned_curve(curve, degree)
         table_paper(curves) table_holds(curves, value)""",
     "told": "told_fault(rows) told_curves(rows) least_degree(row)",
+    "knots": """contact_of(one, other, place) knot_of(curves, place) knot_ahead(tree) knot_there(tree) knot_behind(tree)
+        replayed_orders(first, trees) forbidden_four(order) can_come(order) turn_tree(order) turn_degree(order)
+        turn_curves(order, time)""",
+    "orders": """thing_orders(hall, ways) first_order(curves) last_order(curves) crossings_of(curves, i, j)
+        leaders_of(orders) turns_between(lots, i, j)""",
+    "rows": """hall_table(hall, ways) bell_signs(hall, ways) ring_row(hall, ways) next_ring(hall, ways, time)
+        last_ring(hall, ways, time) tale_of(row) thin_row(row, names) thin_tale(tale, names) merged_rows(row, other)
+        events_of(tale) event_lot(tale, name, i) begins_with(tale, other)""",
+    "spans": """is_spans(value) spans_both(one, other) spans_either(one, other) spans_without(one) until_of(one, other)
+        since_of(one, other) soon_of(one, n) lately_of(one, n) in_spans(one, time) same_spans(one, other)""",
+    "sayings": """truth_of(band, stair) holds_at(band, stair, time) first_time(band, stair) last_time(band, stair)
+        same_truth(band, one, other) labels_of(band, stair) labels_hold(band, stair, value) ever_holds(band, stair)""",
+    "silent": """is_lot(value) is_tale(value) stuck_at(lots, heard) first_laying(lots, heard) last_laying(lots, heard)
+        may_lie(lots, heard) count_layings(lots, heard) silent_for_sure(lots, heard) heard_for_sure(lots, heard)
+        heard_tales(lots) alike_silences(lots, one, other) blame_worths(lots, heard, missing, extra)
+        least_blame(lots, heard, missing, extra) worths_hold(lots, heard, missing, extra, price, value)""",
 }
 
 CLASSES = {
@@ -45,6 +61,9 @@ CLASSES = {
     ("handles", "Handle", "(hall, thing, power)"): {"hall_at": "(self, one)"},
     ("rules", "Ruled", "(hall, rules=())"): {"text": "(self)", "ordered": "(self, order)", "only": "(self, lot)"},
     ("tables", "Table", "(curves, marks=())"): {"__len__": "(self)"},
+    ("courses", "Course", "(hall)"): {"row_by": "(self, ways)"},
+    ("orders", "Orders", "(curves)"): {},
+    ("sayings", "Band", "(hall, turns=())"): {},
 }
 
 ERRORS = {
