@@ -162,21 +162,27 @@ def bound_of(limit):
 
 def face_modes(handle, f, worth):
     """How the bell's sign changes at each moment at which a face is nought at a worth; any values as both."""
-    face = felt_face(handle, f)
+    felt_face(handle, f)
     place = need_worth(worth)
-    # A graph that rises leaves worths above it for ones below it.
-    rising = -sign_of(face[2])
-    if f > 0 and handle.faces[f - 1][0] == face[0]:
-        # Where the second face of a bell is nought, the first one is below 0.
-        rising = -rising
     turns = graph_turns(handle, f)
     modes = []
     for at, branch in enumerate(graph_branches(handle, f)):
         if is_strictly_between(place, branch[2], branch[3]):
-            modes.append("up" if branch[4] == rising else "down")
+            modes.append(branch_mode(handle, f, branch[4]))
         if at < len(turns) and place_order(place, turns[at][1]) == 0:
             modes.append("touch")
     return tuple(modes)
+
+
+def branch_mode(handle, f, sign):
+    """How the bell's sign changes where a face that feels the handle is nought on a branch of this sign."""
+    bell, c = handle.faces[f][0], handle.faces[f][2]
+    # A graph that rises leaves worths above it for ones below it.
+    rising = -sign_of(c)
+    if f > 0 and handle.faces[f - 1][0] == bell:
+        # Where the second face of a bell is nought, the first one is below 0.
+        rising = -rising
+    return "up" if sign == rising else "down"
 
 
 def is_strictly_between(place, low, high):

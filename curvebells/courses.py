@@ -1,7 +1,7 @@
 """Courses: all moments at which bells may ring by some ways, and the rows by them."""
 
 from curvebells.halls import faces_of, followed_curves
-from curvebells.rows import rung_cells
+from curvebells.rows import rung_moments
 from curvebells.tables import Table
 
 
@@ -13,7 +13,7 @@ class Course:
         self.hall = hall
         self.faces = course_faces(hall, choices)
         table = Table(self.faces)
-        rung = {ways: rung_cells(table, hall, ways) for ways in choices}
+        rung = {ways: rung_moments(table, hall, ways) for ways in choices}
         cells = rung_numbers(rung)
         self.moments = tuple([table.moments[cell // 2] for cell in cells])
         # For each ways the tuple of (number, moment as told by these ways, lot).

@@ -41,34 +41,46 @@ def sign_in(signs, faces):
 
 def ring_row(hall, ways):
     """The row of all bells that ring; any value as the ways."""
-    return tuple([(moment, lot) for _, moment, lot in rung_cells(hall_table(hall, ways), hall, ways)])
+    return tuple([(moment, lot) for _, moment, lot in rung_moments(hall_table(hall, ways), hall, ways)])
 
 
-def rung_cells(table, hall, ways):
+def rung_moments(table, hall, ways):
     """For each cell of a table in which bells ring: (cell, moment as the first one tells it, lot).
 
     All faces by these ways are among the table's curves.
     """
     numbers = face_numbers(table)
+    moments = {}
+    rung = []
+    for cell, lot, face in rung_cells(table.signs, numbers, hall, ways):
+        if face not in moments:
+            moments[face] = dict(zip(zero_cells(table, numbers[face]), moments_of(face)))
+        rung.append((cell, moments[face][cell], lot))
+    return rung
+
+
+def rung_cells(signs, numbers, hall, ways):
+    """For each cell in which bells ring, ascending: (cell, lot, face that is nought of the first one).
+
+    By the signs of faces in each cell, and the faces' numbers in these.
+    """
     rung = {}
     for name, number in sorted([(bell[0], number) for number, bell in enumerate(hall.bells)]):
-        mode = hall.bells[number][3]
-        for cell, moment in bell_rings(table, numbers, faces_of(hall, ways, number), mode):
-            rung.setdefault(cell, (moment, []))[1].append(name)
-    return [(cell, rung[cell][0], tuple(rung[cell][1])) for cell in sorted(rung)]
+        faces = faces_of(hall, ways, number)
+        if () not in faces:
+            for cell, face in bell_rings(signs, numbers, faces, hall.bells[number][3]):
+                rung.setdefault(cell, ([], face))[0].append(name)
+    return [(cell, tuple(rung[cell][0]), rung[cell][1]) for cell in sorted(rung)]
 
 
-def bell_rings(table, numbers, faces, mode):
-    """The pairs (cell, moment by the face that is nought there) of one bell, face by face."""
-    if () in faces:
-        return []
+def bell_rings(signs, numbers, faces, mode):
+    """The pairs (cell, face that is nought there) of a bell that doesn't hum."""
     places = [numbers[face] for face in faces]
     rings = []
-    for face, place in zip(faces, places):
-        for moment, cell in zip(moments_of(face), zero_cells(table, place)):
-            ahead = sign_in(table.signs[cell - 1], places)
-            if mode_fits(mode, ahead, sign_in(table.signs[cell + 1], places)):
-                rings.append((cell, moment))
+    for cell in range(1, len(signs), 2):
+        nought = [face for face, place in zip(faces, places) if signs[cell][place] == 0]
+        if nought and mode_fits(mode, sign_in(signs[cell - 1], places), sign_in(signs[cell + 1], places)):
+            rings.append((cell, nought[0]))
     return rings
 
 

@@ -67,3 +67,12 @@ def read_integer(word):
     if figures.startswith("0") and word != "0":
         return None
     return int(word)
+
+
+def is_same(value, wanted):
+    """Whether any value equals a tuple of tuples, integers and strings, no bool an integer and no list a tuple."""
+    if isinstance(wanted, tuple):
+        if not isinstance(value, tuple) or len(value) != len(wanted):
+            return False
+        return all([is_same(one, other) for one, other in zip(value, wanted)])
+    return not isinstance(value, bool) and value == wanted
