@@ -41,7 +41,7 @@ class Ear:
         return (tuple(sorted(ends)), tuple([(part, tuple(sorted(nodes[part]))) for part in sorted(nodes)]))
 
     def spread(self, begin, choice):
-        """The ends behind a standing without a heard lot, and the pairs (heard part, standing at the next heard lot)."""
+        """The ends behind a standing without a heard lot, and pairs (heard part, standing at this next heard lot)."""
         if (begin, choice) in self.spreads:
             return self.spreads[(begin, choice)]
         ends = []

@@ -1,6 +1,6 @@
 """Strands: rings of a handle's bells as the worth is drawn, each one along a graph."""
 
-from curvebells.branches import branch_mode, graph_branches, graph_turns
+from curvebells.branches import branch_mode, graph_branches, graph_turns, hum_worth
 from curvebells.curves import curve_minus, curve_scaled, curve_worth, without_end
 from curvebells.cuts import NOUGHT, inner_cut
 from curvebells.places import halve_longer, span_order, zero_against, zero_among, zero_of
@@ -42,6 +42,12 @@ class Graph:
         return ratio_by(-top * power_bottom, bottom * power_top)
 
 
+def graphs_of(handle):
+    """The graphs of all faces that feel the handle and are () for no worth, by the numbers of the faces."""
+    felt = [f for f, face in enumerate(handle.faces) if face[2] != 0]
+    return {f: Graph(handle, f) for f in felt if hum_worth(handle, f) is None}
+
+
 class Strand:
     """The moment at which a graph has a worth on one branch: in an open span, or the ratio that it is."""
 
@@ -78,6 +84,11 @@ class Strand:
             self.low = middle
         if side <= 0:
             self.high = middle
+
+
+def is_one_graph(one, other):
+    """Whether two graphs have one worth at each time."""
+    return cross_curve(one, other) == ()
 
 
 def cross_curve(one, other):

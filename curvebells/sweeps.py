@@ -1,13 +1,13 @@
 """Sweeps: the tales of a handle at all its worths, and the worths at which the tale breaks."""
 
-from curvebells.branches import hum_worth, need_worth, worth_at
+from curvebells.branches import need_worth, worth_at
 from curvebells.errors import InvalidSize
 from curvebells.halls import with_bells
 from curvebells.lines import runs_of
 from curvebells.places import gathered_zeros, is_place, moments_of, place_order, ratio_of, ratio_place
 from curvebells.places import simplest_between, zero_among, zero_of
 from curvebells.rows import ring_row
-from curvebells.strands import Graph, Strand, cross_curve, tale_by
+from curvebells.strands import Strand, cross_curve, graphs_of, tale_by
 
 # The key of what rings at the same moments for all worths begins with this, instead of a face's number.
 UNMOVED = -1
@@ -65,10 +65,7 @@ class Draw:
 
     def __init__(self, handle):
         self.handle = handle
-        self.graphs = {}
-        for f, face in enumerate(handle.faces):
-            if face[2] != 0 and hum_worth(handle, f) is None:
-                self.graphs[f] = Graph(handle, f)
+        self.graphs = graphs_of(handle)
         felt = [face[0] for face in handle.faces if face[2] != 0]
         unfelt = [bell for number, bell in enumerate(handle.hall.bells) if number not in felt]
         self.row = ring_row(with_bells(handle.hall, unfelt), handle.hall.first)

@@ -74,31 +74,47 @@ SAYINGS = """
     ([False, True, False], False)
 """
 
-HALLS = """
+RUNS = """
     >>> from curvebells.halls import Hall
-    >>> hall = Hall.read("thing cat\\nway run 0 0 1\\nthing dog\\nway walk 0 1\\nbell ding meet cat dog any\\nbell dong at cat 2 any")
-    >>> hall.first
-    (0, 0)
     >>> from curvebells.rules import Ruled
+    >>> from curvebells.runs import Run
     >>> hall = Hall.read("thing cat\\nway run 0 1\\nway back 10 -1\\nbell tick at cat 3 any\\nbell tock at cat 6 any")
     >>> ruled = Ruled.read(hall, "when tick turn cat back\\nwhen tock turn cat run")
-    >>> ruled.rules
-    (('tick', (), 'cat', 'back'), ('tock', (), 'cat', 'run'))
+    >>> [(moment[0][0], lot, ways) for moment, lot, acts, ways in Run(ruled).rounds]
+    [(-3, ('tick',), (1,)), (-4, ('tock',), (0,)), (-6, ('tock',), (0,))]
 """
 
-HANDLES = """
+ROOMS = """
+    >>> from curvebells.rooms import Rooms, some_weave
+    >>> rooms = Rooms([("a", (("d",), ("e",))), ("b", (("f",),))], (), [(("a", 1), ("b", 1))])
+    >>> some_weave(rooms)
+    ((('a', 1),), (('a', 2), ('b', 1)))
+"""
+
+SWEEPS = """
     >>> from curvebells.branches import graph_limits, graph_turns
     >>> from curvebells.halls import Hall
     >>> from curvebells.handles import Handle
     >>> from curvebells.places import place_order
+    >>> from curvebells.stays import stay_holds
+    >>> from curvebells.sweeps import Sweep, simplest_in
     >>> things = [("cat", (("run", (1, 0, 1)),)), ("dog", (("hop", (0, 0, 1)),))]
     >>> hall = Hall(things, [("ding", "at", ("cat", 0), "any"), ("dong", "meet", ("cat", "dog"), "any")])
     >>> handle = Handle(hall, "cat", 1)
     >>> handle.faces, graph_limits(handle, 1)
     (((0, (1, 0, 1), 1, 1), (1, (1,), 1, 1)), (-1, (0, 1)))
+    >>> sweep = Sweep(handle)
+    >>> [place_order(one, ((n, 1), 1)) for one, n in zip(sweep.breaks, (2, 0))], sweep.tales[:2]
+    ([0, 0], ((('dong',), ('ding',), ('ding',)), (('dong',), ('ding',))))
+    >>> sweep.tales[2:], simplest_in(sweep.part_of((-9, 4)))
+    (((('dong',),), (), ()), (-3, 1))
     >>> cube = Handle(Hall([("cat", (("run", (1, 0, 0, 1)),))], [("ding", "at", ("cat", 0), "any")]), "cat", 1)
     >>> [place_order(one, ((n, 0, 0, m), 1)) for one, n, m in zip(graph_turns(cube, 0)[0], (-1, 27), (2, 4))]
     [0, 0]
+    >>> first = (((9, 20), 0), ((3, 4), 2), ((3, 2), 0), ((3, 1), 2), (None, 0))
+    >>> second = (((1, 3), 0), ((9, 20), 2), (None, 0))
+    >>> stay_holds(handle, (-5, 2), (-7, 3), (((-5, 2), (-7, 3), (first, second)),))
+    (('dong',), ('ding',), ('ding',))
 """
 
 TOLD = """
@@ -135,8 +151,9 @@ def load_tests(loader, tests, pattern):
     suite.addTest(suite_of("overview", OVERVIEW))
     suite.addTest(suite_of("knots", KNOTS))
     suite.addTest(suite_of("sayings", SAYINGS))
-    suite.addTest(suite_of("halls", HALLS))
-    suite.addTest(suite_of("handles", HANDLES))
+    suite.addTest(suite_of("runs", RUNS))
+    suite.addTest(suite_of("rooms", ROOMS))
+    suite.addTest(suite_of("sweeps and stays", SWEEPS))
     suite.addTest(suite_of("told", TOLD))
     suite.addTest(suite_of("wishes", WISHES))
     return suite

@@ -49,6 +49,19 @@ FUNCTIONS = {
         may_lie(lots, heard) count_layings(lots, heard) silent_for_sure(lots, heard) heard_for_sure(lots, heard)
         heard_tales(lots) alike_silences(lots, one, other) blame_worths(lots, heard, missing, extra)
         least_blame(lots, heard, missing, extra) worths_hold(lots, heard, missing, extra, price, value)""",
+    "sweeps": "simplest_in(part)",
+    "turners": """game_first(game, wish) game_moves(game, wish, standing) game_standings(game, wish)
+        game_play(game, wish, run) game_turns(game, wish, run) sure_plan(game, wish, group, by=None)
+        plan_holds(game, wish, group, value, *, by=None, against=False) good_choices(game, wish, group)
+        soonest_end(game, wish, group) least_groups(game, wish)""",
+    "blind": """first_nodes(game, wish, hand, heard) next_nodes(game, wish, hand, heard, node, choice)
+        blind_sure(game, wish, hand, heard) blind_holds(game, wish, hand, heard, value)
+        blind_lost(game, wish, hand, heard, value) least_heard(game, wish, hand)""",
+    "parting": "kinds_of_times(band, stair) parting_stair(band, stair, one, other)",
+    "rooms": """rooms_of(bands, gongs=(), calls=()) join_circle(rooms) is_circle(rooms, value) some_weave(rooms)
+        broken_join(rooms, weave) is_weave(rooms, value)""",
+    "runs": "run_paper(ruled) run_holds(ruled, value)",
+    "stays": "stay_holds(handle, low, high, value) stay_paper(handle, low, high)",
 }
 
 CLASSES = {
@@ -64,6 +77,17 @@ CLASSES = {
     ("courses", "Course", "(hall)"): {"row_by": "(self, ways)"},
     ("orders", "Orders", "(curves)"): {},
     ("sayings", "Band", "(hall, turns=())"): {},
+    ("sweeps", "Sweep", "(handle)"): {
+        "cell_of": "(self, worth)", "tale_at": "(self, worth)", "part_of": "(self, worth)",
+        "parts_where": "(self, test)",
+    },
+    ("turners", "Game", "(hall, hands)"): {},
+    ("rooms", "Rooms", "(rooms, gongs=(), calls=())"): {
+        "many_lots": "(self, name)", "lot_of": "(self, step)", "step_of": "(self, name, bell, turn)",
+        "with_gong": "(self, one, other)", "with_call": "(self, one, other)", "without_joins": "(self)",
+        "text": "(self)", "__eq__": "(self, other)",
+    },
+    ("runs", "Run", "(ruled, since=None, ways=None, *, deaf=())"): {"ways_at": "(self, moment)"},
 }
 
 ERRORS = {
@@ -83,9 +107,9 @@ class TestInterface(unittest.TestCase):
     def test_functions(self):
         for name, text in FUNCTIONS.items():
             module = module_of(name)
-            for word, parameters in re.findall(r"(\w+)(\([^)]*\))", text):
+            for word, parameters in re.findall(r"(\w+)(\((?:[^()]|\(\))*\))", text):
                 function = getattr(module, word)
-                self.assertEqual(str(inspect.signature(function)), parameters, word)
+                self.assertEqual(str(inspect.signature(function)), " ".join(parameters.split()), word)
                 self.assertEqual(function.__module__, "curvebells." + name)
 
     def test_classes(self):
@@ -99,7 +123,7 @@ class TestInterface(unittest.TestCase):
 
     def test_read(self):
         for name, word, parameters in (("stairs", "Stair", "(text)"), ("halls", "Hall", "(text)"),
-                                       ("rules", "Ruled", "(hall, text)")):
+                                       ("rules", "Ruled", "(hall, text)"), ("rooms", "Rooms", "(text)")):
             made = getattr(module_of(name), word)
             self.assertIn("read", vars(made))
             self.assertEqual(str(inspect.signature(made.read)), parameters)
