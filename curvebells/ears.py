@@ -79,12 +79,13 @@ class Ear:
 
     def is_node(self, value):
         """Whether any value is a node."""
-        if not isinstance(value, tuple) or len(value) == 0:
+        if not isinstance(value, tuple):
             return False
         if not all([is_standing(self.game, self.wish, standing) for standing in value]):
             return False
         if not all([one < other for one, other in zip(value, value[1:])]):
             return False
+        # Of no standing there is no truth, of a node there is one.
         return len(set([self.hand in standing[3] for standing in value])) == 1
 
     def is_choosing(self, node):

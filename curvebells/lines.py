@@ -14,9 +14,7 @@ class Line:
         self.truths = []
 
     def put(self, zero):
-        """Makes a zero one of the moments, if it is above 0 and not yet there."""
-        if zero_against(zero, NOUGHT) <= 0:
-            return
+        """Makes a zero above 0 one of the moments, if it is not yet there."""
         at, is_there = zero_among(zero, self.zeros)
         if not is_there:
             self.zeros.insert(at, zero)
@@ -57,7 +55,7 @@ class Line:
             spans.append((low, begin & 1 == 1, high, end & 1 == 1))
         return spans
 
-    def places(self):
+    def told_places(self):
         """The moments as places."""
         return tuple([(zero.curve, zero.number) for zero in self.zeros])
 

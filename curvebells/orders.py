@@ -70,8 +70,7 @@ def leaders_of(orders):
     """The first lots of all cells of an Orders, of neighbouring like ones one."""
     leaders = []
     for order in orders.orders:
-        # Of no curves, none leads.
-        if order and order[:1] != tuple(leaders[-1:]):
+        if order[:1] != tuple(leaders[-1:]):
             leaders.append(order[0])
     return tuple(leaders)
 

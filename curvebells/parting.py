@@ -16,7 +16,7 @@ def kinds_of_times(band, stair):
     """The fewest moments that keep the atoms in each cell, and rounds of numbers of the cells."""
     need_names(band, stair)
     line = truth_line(band, atoms_of(stair))
-    return (line.places(), tuple(rounds_of(line.truths)))
+    return (line.told_places(), tuple(rounds_of(line.truths)))
 
 
 def rounds_of(truths):
@@ -134,14 +134,12 @@ class Parter:
         between = shared if is_moment_met else shared + [wanted]
         barred = [other[at][0]] if at < len(other) else []
         there = self.class_row(numbers, [wanted], [number for number in shared + barred if number != wanted])
-        if not barred:
-            # All that the other way meets is between, so what is wanted alone tells them apart.
-            return self.put(word, self.put("or", there, self.put("not", there)), there)
         return self.put(word, self.class_row(numbers, between, barred), there)
 
     def class_row(self, numbers, wanted, barred):
         """The number of a row that holds in all cells with some numbers, in none with some others."""
         if not barred:
+            # What holds everywhere will do.
             return self.put("or", 0, self.put("not", 0))
         parts = []
         for number in wanted:

@@ -225,14 +225,28 @@ def gathered_zeros(zeros):
 
 def zero_among(zero, zeros):
     """How many of ascending unlike zeros are less than a zero, and whether the next one is the same."""
+    return found_among(len(zeros), lambda at: zero_order(zero, zeros[at]))
+
+
+def place_among(place, places):
+    """How many of ascending unlike places are less than a place, and whether the next one is the same."""
+    zero = zero_of(place)
+    return found_among(len(places), lambda at: zero_order(zero, zero_of(places[at])))
+
+
+def found_among(many, order):
+    """How many of so many ascending things are less than one, and whether the next one is the same.
+
+    By a function of a number: -1, 0 or 1, as the one is less than the thing of this number, the same, or greater.
+    """
     low = 0
-    high = len(zeros)
+    high = many
     while low < high:
         middle = (low + high) // 2
-        order = zero_order(zero, zeros[middle])
-        if order == 0:
+        told = order(middle)
+        if told == 0:
             return (middle, True)
-        if order < 0:
+        if told < 0:
             high = middle
         else:
             low = middle + 1

@@ -46,7 +46,7 @@ class Rooms:
     def step_of(self, name, bell, turn):
         """The step at which a bell rings for the turn-th time; any values."""
         for room, tale in self.rooms:
-            number = event_lot(tale, bell, turn) if room == name and is_name(bell) and is_count(turn) else None
+            number = event_lot(tale, bell, turn) if room == name and is_count(turn) else None
             if number is not None:
                 return (room, number + 1)
         raise NoName((name, bell, turn))

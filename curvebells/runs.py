@@ -3,7 +3,7 @@
 from curvebells.courses import Course, all_ways, course_faces
 from curvebells.errors import InvalidPlace, InvalidSize
 from curvebells.halls import followed_curves, thing_number, way_number
-from curvebells.places import is_moment, zero_among, zero_of, zero_order
+from curvebells.places import is_moment, place_among, zero_of, zero_order
 from curvebells.rows import rung_cells
 from curvebells.sayings import Band
 from curvebells.tables import table_holds, table_paper
@@ -53,7 +53,7 @@ def is_deaf_pair(ruled, value):
 
 def moments_to(course, moment):
     """How many moments of a course are a moment, or ahead of it."""
-    ahead, is_there = zero_among(zero_of(moment), [zero_of(one) for one in course.moments])
+    ahead, is_there = place_among(moment, course.moments)
     return ahead + int(is_there)
 
 

@@ -116,14 +116,14 @@ def same_truth(band, one, other):
     line = truth_line(band, one.rows + tuple([renumbered_row(row, behind) for row in other.rows]))
     for cell, (first, second) in enumerate(zip(line.truths[many - 1], line.truths[-1])):
         if first != second:
-            return cell_place(line.places(), cell)
+            return cell_place(line.told_places(), cell)
     return None
 
 
 def labels_of(band, stair):
     """Some labels of a stair in a band."""
     line = stair_line(band, stair)
-    return (line.places(), tuple([tuple(row) for row in line.truths]))
+    return (line.told_places(), tuple([tuple(row) for row in line.truths]))
 
 
 def labels_hold(band, stair, value):
@@ -166,5 +166,5 @@ def ever_holds(band, stair):
     line = stair_line(band, stair)
     for cell, is_true in enumerate(line.truths[-1]):
         if is_true:
-            return (True, cell_place(line.places(), cell))
-    return (False, (line.places(), tuple([tuple(row) for row in line.truths])))
+            return (True, cell_place(line.told_places(), cell))
+    return (False, (line.told_places(), tuple([tuple(row) for row in line.truths])))

@@ -56,10 +56,10 @@ class Strand:
         self.worth = worth
         at = cell // 2
         self.sign = graph.branches[at][4]
-        self.begin = graph.turns[at - 1] if at > 0 else None
-        self.end = graph.turns[at] if at < len(graph.turns) else None
-        self.low = NOUGHT if self.begin is None else self.begin.low
-        self.high = self.far_ratio() if self.end is None else self.end.high
+        self.turn_ahead = graph.turns[at - 1] if at > 0 else None
+        self.turn_behind = graph.turns[at] if at < len(graph.turns) else None
+        self.low = NOUGHT if self.turn_ahead is None else self.turn_ahead.low
+        self.high = self.far_ratio() if self.turn_behind is None else self.turn_behind.high
 
     def far_ratio(self):
         """A ratio that is not below the moment."""
@@ -70,9 +70,9 @@ class Strand:
 
     def side_of(self, one):
         """1, 0 or -1, as the moment is above a ratio, equal to it, or below."""
-        if self.begin is not None and zero_against(self.begin, one) >= 0:
+        if self.turn_ahead is not None and zero_against(self.turn_ahead, one) >= 0:
             return 1
-        if self.end is not None and zero_against(self.end, one) <= 0:
+        if self.turn_behind is not None and zero_against(self.turn_behind, one) <= 0:
             return -1
         return self.sign * zero_against(self.worth, self.graph.worth_at(one))
 

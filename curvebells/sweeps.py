@@ -4,8 +4,8 @@ from curvebells.branches import need_worth, worth_at
 from curvebells.errors import InvalidSize
 from curvebells.halls import with_bells
 from curvebells.lines import runs_of
-from curvebells.places import gathered_zeros, is_place, moments_of, place_order, ratio_of, ratio_place
-from curvebells.places import simplest_between, zero_among, zero_of
+from curvebells.places import gathered_zeros, is_place, moments_of, place_among, place_order, ratio_of, ratio_place
+from curvebells.places import simplest_between, zero_of
 from curvebells.rows import ring_row
 from curvebells.strands import Strand, cross_curve, graphs_of, tale_by
 
@@ -18,19 +18,18 @@ class Sweep:
 
     def __init__(self, handle):
         draw = Draw(handle)
-        zeros, tales = draw.all_tales()
-        kept = [at for at in range(len(zeros)) if not is_one_tale(tales[2 * at:2 * at + 3])]
+        places, tales = draw.all_tales()
+        kept = [at for at in range(len(places)) if not is_one_tale(tales[2 * at:2 * at + 3])]
         cells = [0]
         for at in kept:
             cells = cells + [2 * at + 1, 2 * at + 2]
         self.handle = handle
-        self.zeros = [zeros[at] for at in kept]
-        self.breaks = tuple([(zero.curve, zero.number) for zero in self.zeros])
+        self.breaks = tuple([places[at] for at in kept])
         self.tales = tuple([tales[cell] for cell in cells])
 
     def cell_of(self, worth):
         """The number of the tale at a worth; any value."""
-        ahead, is_there = zero_among(zero_of(need_worth(worth)), self.zeros)
+        ahead, is_there = place_among(need_worth(worth), self.breaks)
         return 2 * ahead + int(is_there)
 
     def tale_at(self, worth):
@@ -111,15 +110,15 @@ class Draw:
         unlike = list({place: True for place in places})
         groups = gathered_zeros([zero_of(place) for place in unlike])
         ranks = {unlike[number]: rank for rank, group in enumerate(groups) for number in group}
-        zeros = [zero_of(unlike[group[0]]) for group in groups]
-        ends = [None] + [unlike[group[0]] for group in groups] + [None]
+        firsts = [unlike[group[0]] for group in groups]
+        ends = [None] + firsts + [None]
         tales = []
         for rank, high in enumerate(ends[1:]):
             between = zero_of(ratio_place(simplest_between(ends[rank], high)))
             tales.append(self.tale_in(2 * rank, between, ranks))
             if high is not None:
-                tales.append(self.tale_in(2 * rank + 1, zeros[rank], ranks))
-        return (zeros, tales)
+                tales.append(self.tale_in(2 * rank + 1, zero_of(high), ranks))
+        return (firsts, tales)
 
     def tale_in(self, cell, worth, ranks):
         """The tale at a worth in a cell; ranks tell the number of each worth at which something may change."""

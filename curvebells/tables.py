@@ -4,8 +4,8 @@ from curvebells.curves import curve_sign, first_sign, is_curve, last_sign, witho
 from curvebells.cuts import NOUGHT, common_curve, cut_count, cuts_hold, cuts_of, plain_curve, quotient_curve
 from curvebells.errors import InvalidCurve, InvalidPlace, InvalidSize
 from curvebells.papers import shows_zero
-from curvebells.places import gathered_zeros, is_moment, is_plain, ratio_place, simplest_between, zero_against
-from curvebells.places import zero_among, zero_of, zeros_of
+from curvebells.places import gathered_zeros, is_moment, is_plain, place_among, ratio_place, simplest_between
+from curvebells.places import zero_against, zero_of, zeros_of
 from curvebells.ratios import is_ratio, middle_ratio, ratio_order, simplest_ratio
 from curvebells.values import is_lot_below, is_number, is_sequence
 
@@ -133,7 +133,7 @@ def time_cell(table, time):
     """The cell in which a moment lies; any value as the moment."""
     if not is_moment(time):
         raise InvalidPlace(0)
-    ahead, is_there = zero_among(zero_of(time), [zero_of(moment) for moment in table.moments])
+    ahead, is_there = place_among(time, table.moments)
     return 2 * ahead + 1 if is_there else 2 * ahead
 
 

@@ -9,8 +9,8 @@ from curvebells.errors import InvalidSize, NoName, Refused
 from curvebells.halls import Hall
 from curvebells.turners import Game, game_first, game_moves, sure_plan
 from curvebells.wishes import Wish, wish_ahead, wish_both, wish_denied, wish_last, wish_rings
-from tests.helpers import ANY_VALUES, BellCase, source, times
-from tests.test_turners import GAME, HALL, some_game, some_wish
+from tests.helpers import ANY_VALUES, BellCase, source
+from tests.test_turners import GAME, HALL, busy_hall, some_game, some_wish
 
 
 def heard_of(game, hand, heard, standing):
@@ -80,6 +80,25 @@ def plan_wins(game, wish, hand, heard, plan):
             part = heard_of(game, hand, heard, behind) if told is None else ()
             todo.append((hearing + ((part,) if part else ()), behind))
     return True
+
+
+def coming(game, wish, hand, heard, plan):
+    """The hearings, ascending, that come by a plan, and at whose last lot the hand chooses."""
+    number = [told[0] for told in game.hands].index(hand)
+    todo, met, found = [((), game_first(game, wish))], set(), set()
+    while todo:
+        hearing, standing = todo.pop()
+        if (hearing, standing) in met:
+            continue
+        met.add((hearing, standing))
+        is_own = bool(standing[3]) and standing[3][0] == number
+        if is_own:
+            found.add(hearing)
+        for told, behind in game_moves(game, wish, standing):
+            if not is_own or told == plan[hearing]:
+                part = heard_of(game, hand, heard, behind) if told is None else ()
+                todo.append((hearing + ((part,) if part else ()), behind))
+    return sorted(found)
 
 
 class TestNodes(BellCase):
@@ -221,6 +240,7 @@ class TestSure(BellCase):
             self.assert_same(blind_lost(game, wish, hand, heard, value), not sure)
             if sure:
                 self.assertEqual(list(value), sorted(value))
+                self.assertEqual([hearing for hearing, _ in value], coming(game, wish, hand, heard, dict(value)))
             for plan in rng.sample(plans, min(4, len(plans))):
                 pairs = tuple(rng.sample(list(plan.items()), len(plan)))
                 self.assert_same(blind_holds(game, wish, hand, heard, pairs), plan in good)
@@ -285,12 +305,7 @@ class TestSure(BellCase):
         self.assert_same(least_heard(game, bad, "ann"), ())
 
     def test_greatest(self):
-        things = []
-        for at, name in enumerate("abc"):
-            ways = [times(*[(-4 * k - 3 * at - n, 4) for k in (1, 4, 7, 10)]) for n in (0, 6)]
-            things.append((name, (("u", ways[0]), ("v", ways[1]))))
-        hall = Hall(things, [(name + name, "at", (name, 0), "any") for name, _ in things] +
-                    [("ab", "meet", ("a", "b"), "any")])
+        hall = busy_hall()
         bells = [bell[0] for bell in hall.bells]
         game = Game(hall, [("x", ["a"], ["aa", "bb"]), ("y", ["b"], ["bb", "cc"])])
         wish = wish_both(wish_rings("ab", 2), wish_denied(wish_last("cc")))

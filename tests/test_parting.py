@@ -5,7 +5,7 @@ import unittest
 from curvebells.errors import InvalidPlace, NoName
 from curvebells.halls import Hall
 from curvebells.parting import kinds_of_times, parting_stair
-from curvebells.places import is_moment, ratio_place
+from curvebells.places import is_moment, place_order, ratio_place
 from curvebells.ratios import ratio_by
 from curvebells.sayings import Band, holds_at, truth_of
 from curvebells.stairs import Stair, is_timeless, stair_depth
@@ -138,6 +138,20 @@ class TestParting(BellCase):
         self.assertIsNone(parting_stair(band, CALM, ((-6, 5), 1), ((-7, 5), 1)))
         self.assertEqual(stair_depth(parting_stair(band, CALM, ONE, root)), 0)
         self.assertEqual(stair_depth(parting_stair(band=band, stair=CALM, one=half, other=five)), 1)
+
+    def test_at_a_moment_or_in_a_stretch(self):
+        # Between 1 and 4 and between 5 and 6 the cat is above 5: first it comes to 5 at 4, then it leaps behind 6.
+        hall = Hall.read("thing cat\nway low 0\nway fall 9 -1\nway high 7\nbell ding at cat 6 any")
+        band = Band(hall, [(ONE, (1,)), (((-5, 1), 1), (2,)), (((-6, 1), 1), (0,))])
+        stair = Stair([("above", "cat", 5)])
+        places, rounds = kinds_of_times(band, stair)
+        self.assertEqual([place_order(one, ((-at, 1), 1)) for one, at in zip(places, (1, 4, 5, 6))], [0] * 4)
+        self.assert_same(rounds, ((0, 0, 1, 0, 0, 0, 1, 1, 0), (0, 1, 2, 3, 4, 5, 6, 7, 8)))
+        cells = [inner_place(Table([], places), cell) for cell in range(9)]
+        for one in cells:
+            for other in cells:
+                self.check(band, stair, one, other)
+        self.assertEqual(stair_depth(parting_stair(band, stair, cells[2], cells[6])), 1)
 
     def test_by_the_words(self):
         rng = source(152)

@@ -155,6 +155,8 @@ class TestText(BellCase):
         self.assert_same(Rooms([C]).text(), "room c")
         self.assertEqual(Rooms.read(TEXT), JOINED)
         self.assertEqual(Rooms.read(text="room c"), Rooms([C]))
+        self.assertEqual(Rooms.read("room abcdefgh x\nroom b x\ncall abcdefgh 1 b 1\ncall b 1 abcdefgh 1").calls,
+                         ((("abcdefgh", 1), ("b", 1)), (("b", 1), ("abcdefgh", 1))))
         self.assertEqual(Rooms.read("room room room\nroom gong call\ngong room 1 gong 1"),
                          Rooms([("room", (("room",),)), ("gong", (("call",),))], [(("room", 1), ("gong", 1))]))
         rng = source(190)
@@ -171,7 +173,7 @@ class TestText(BellCase):
         good = "room a d, e\nroom b f"
         for row in ("", "room", "room ", "room A", "room c ", "room c d,", "room c d,e", "room c d , e", "room c  d", "room c ,",
                     "room abcdefghi", "room c d1", " room c", "room c D", "rooms c", "gong a 1 b", "gong a 1 b 1 1",
-                    "gong a 01 b 1", "gong a -1 b 1", "gong a 1 b x", "gong 1 a b 1", "gong a 10000 b 1", "gong a  1 b 1",
+                    "gong a 01 b 1", "gong a -1 b 1", "gong a 1 b x", "gong 1 a b 1", "gong a 10000 b 1", "gong a 1 b 10000", "gong a  1 b 1",
                     "gong a 1 b 1 ", "call a 1 B 1", "call a 1 b", "bell a 1 b 1", "call", "gong a +1 b 1", "call a -0 b 1",
                     "call a 1 b 00001", "gong a \u0661 b 1"):
             self.assert_error(InvalidText, {"at": 2}, Rooms.read, good + "\n" + row)
@@ -213,6 +215,8 @@ class TestCircles(BellCase):
         self.assertEqual(len(join_circle(one)), 2)
         for circle in ((("a", 1), ("b", 1)), (("b", 1), ("a", 1))):
             self.assert_same(is_circle(one, circle), True)
+        # Each step leads to the next one, but none may come twice.
+        self.assert_same(is_circle(one, (("a", 1), ("b", 1), ("a", 1), ("b", 1))), False)
         two = Rooms([A, ("b", (("x",), ("y",)))], [], [(("a", 2), ("b", 1)), (("b", 2), ("a", 1))])
         self.assert_same(is_circle(two, (("a", 2), ("b", 1), ("b", 2), ("a", 1))), True)
         self.assert_same(is_circle(rooms=two, value=(("a", 1), ("a", 2), ("b", 1), ("b", 2))), True)

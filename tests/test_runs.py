@@ -178,10 +178,10 @@ class TestRun(BellCase):
                 self.assert_error(InvalidPlace, {"at": 0}, Run, RULED, value, value, deaf=value)
             if value is not None:
                 self.assert_error(InvalidHall, {"at": "ways"}, Run, RULED, None, value, deaf=value)
-            if value not in ((), []) and value not in (((1, 2),), ((0, 2),)):
+            if value not in ((), []):
                 self.assert_error(InvalidSize, {"word": "deaf"}, Run, RULED, None, (0,), deaf=value)
-            self.assert_error(InvalidSize, {"word": "deaf"}, Run, RULED, deaf=[(0, 1), value if value != (0, 2) else 0]
-                              if value not in ((1, 2), (1, 1)) else None)
+            if value not in ((0, 2), (1, 2)):
+                self.assert_error(InvalidSize, {"word": "deaf"}, Run, RULED, deaf=[(0, 1), value])
         for ways in ((), (2,), (0, 0), [0], (True,), (-1,)):
             self.assert_error(InvalidHall, {"at": "ways"}, Run, RULED, ONE, ways)
         for deaf in (None, 1, "ab", [(2, 1)], [(-1, 1)], [(0, 0)], [(0, True)], [(False, 1)], [[0, 1]], [(0,)], [(0, 1, 1)],
@@ -212,7 +212,8 @@ class TestPaper(BellCase):
                       ((1, ("tick",), (False,), (1,)),) + rounds[1:], ((1, ("tick",), (0,), (0,)),) + rounds[1:],
                       ((1, ["tick"], (0,), (1,)),) + rounds[1:], ([1, ("tick",), (0,), (1,)],) + rounds[1:]):
             self.assert_same(run_holds(ruled=RULED, value=(table, wrong)), False)
-        for wrong in ((table,), (table, rounds, 1), [table, rounds], (None, rounds), ((), rounds), (list(table), rounds)):
+        for wrong in ((table,), (table, rounds, 1), [table, rounds], (None, rounds), ((), rounds), (list(table), rounds),
+                      (None, ()), ((), ()), (((), ()), ())):
             self.assert_same(run_holds(RULED, wrong), False)
         for value in ANY_VALUES:
             self.assert_same(run_holds(RULED, value), False)

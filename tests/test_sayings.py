@@ -124,7 +124,7 @@ def some_stair(rng, band, many, timed):
     rows = []
     while len(rows) < many:
         chance = rng.random()
-        if not rows or chance < 0.35:
+        if len(rows) < 2 or chance < 0.3:
             atoms = [("above", names[0], rng.randint(-4, 4)), ("above", rng.randint(-4, 4), names[-1]),
                      ("rises", rng.choice(names)), ("falls", rng.choice(names)),
                      ("rings", rng.choice(band.hall.bells)[0])]
@@ -138,7 +138,7 @@ def some_stair(rng, band, many, timed):
             timed -= 1
         else:
             word = rng.choice(["and", "or", "until", "since", "until", "since"])
-            rows.append((word, rng.randrange(len(rows)), len(rows) - 1))
+            rows.append((word, *rng.sample(range(len(rows)), 2)))
     return Stair(rows)
 
 
@@ -226,6 +226,17 @@ class TestTruth(BellCase):
         self.spans(band, [("rings", "meet")], ((three, True, three, True), (seven, True, seven, True)))
         self.spans(band, [("rings", "up")], ())
 
+    def test_and_or(self):
+        band = Band(EXAMPLE)
+        root = ((-2, 0, 1), 2)
+        rows = [("above", "cat", 1), ("above", 2, "cat")]
+        self.spans(band, rows + [("and", 0, 1)], ((ONE, False, root, False),))
+        self.spans(band, rows + [("and", 1, 0)], ((ONE, False, root, False),))
+        rows = [("above", 1, "cat"), ("above", "cat", 2)]
+        self.spans(band, rows + [("or", 0, 1)], ((None, False, ONE, False), (root, False, None, False)))
+        self.spans(band, rows + [("or", 1, 0)], ((None, False, ONE, False), (root, False, None, False)))
+        self.spans(band, rows + [("and", 0, 1)], ())
+
     def test_the_time_nought_and_no_end(self):
         band = Band(EXAMPLE)
         self.spans(band, [("above", "cat", 0)], ALL)
@@ -242,16 +253,16 @@ class TestTruth(BellCase):
 
     def test_by_the_words(self):
         rng = source(131)
-        for _ in range(50):
+        for _ in range(150):
             band = some_band(rng)
-            stair = some_stair(rng, band, rng.randint(1, 8), 1)
+            stair = some_stair(rng, band, rng.randint(1, 9), 1)
             self.check_truths(band, stair)
 
     def test_soon_of_soon(self):
         rng = source(132)
-        for _ in range(8):
+        for _ in range(20):
             band = some_band(rng, 1)
-            stair = some_stair(rng, band, 6, 2)
+            stair = some_stair(rng, band, 7, 2)
             self.check_truths(band, stair)
 
     def check_truths(self, band, stair):
@@ -346,6 +357,13 @@ class TestLabels(BellCase):
         self.assert_same(labels_hold(self.band, Stair([("above", "cat", 0)]), ((), ((True,),))), True)
         self.assert_same(labels_hold(self.band, Stair([("above", "cat", 0)]), ((), ((False,),))), False)
 
+    def test_moments_ascend(self):
+        always = Stair([("above", "cat", 0)])
+        for places, wanted in (((ONE, TWO), True), ((TWO, ONE), False), ((ONE, ONE), False), ((ONE, ((0, -1, 1), 2)), False),
+                               ((ONE, TWO, TWO), False), ((((-1, 2), 1), TWO, ONE), False)):
+            rows = ((True,) * (2 * len(places) + 1),)
+            self.assert_same(labels_hold(self.band, always, (places, rows)), wanted)
+
     def test_wrong(self):
         places, rows = self.labels
         for at in range(4):
@@ -355,6 +373,7 @@ class TestLabels(BellCase):
         ints = tuple(tuple(int(one) for one in row) for row in rows)
         for value in (None, list(self.labels), (list(places), rows), (places, list(rows)), (places, rows, 1), (places,),
                       (places, rows[:3]), (places, rows + rows[:1]), (places, ints), (places[::-1], rows),
+                      (places, ((0,) + rows[0][1:],) + rows[1:]), (places, rows[:3] + (rows[3][:3] + (1, False),)),
                       (places[:1], tuple(row[:3] for row in rows)), (places[:1], rows), ((ONE, ONE), rows),
                       ((ONE, ((0, -1, 1), 2)), rows), ((((0, 1), 1), ONE), rows), ((ONE, TWO), rows),
                       ((None, None), rows), (places, (list(rows[0]),) + rows[1:]), (places, (rows[0], None) + rows[2:]),

@@ -125,6 +125,7 @@ class TestLeastRows(BellCase):
                     ((ONE, True, TWO, True), (TWO, False, THREE, True)), ((ONE, True, TWO, False), (TWO, True, TWO, True)),
                     ((ONE, True, TWO, True), (ALIKE[TWO], True, TWO, True)),
                     ((TWO, True, TWO, True), (ONE, True, ONE, True)), ((ONE, True, THREE, True), (TWO, True, None, False)),
+                    ((ONE, True, THREE, False), (TWO, False, None, False)), ((TWO, False, THREE, False), (ONE, False, TWO, False)),
                     ((ONE, False, TWO, True), (ALIKE[TWO], False, None, False)),
                     ((ONE, True, None, False), (TWO, True, TWO, True)), ((ONE, True, TWO, True), None)):
             self.assertIs(is_spans(row), False, row)

@@ -43,6 +43,16 @@ def some_game(rng, hands=3):
     return Game(hall, chosen), [bell[0] for bell in bells]
 
 
+def busy_hall():
+    """A hall of three things with two ways each, which pass their heights four times, turn about turn."""
+    things = []
+    for at, name in enumerate("abc"):
+        ways = [times(*[(-4 * k - 3 * at - n, 4) for k in (1, 4, 7, 10)]) for n in (0, 6)]
+        things.append((name, (("u", ways[0]), ("v", ways[1]))))
+    return Hall(things, [(name + name, "at", (name, 0), "any") for name, _ in things] + [
+        ("ab", "meet", ("a", "b"), "any")])
+
+
 def some_wish(rng, bells):
     states = rng.randint(2, 3)
     steps = [(rng.randrange(states), rng.sample(bells, rng.randint(0, 1)), rng.sample(bells, rng.randint(0, 1)),
@@ -134,6 +144,8 @@ class TestMoves(BellCase):
         moves = game_moves(game, wish_rings("ding"), (1, (0, 0, 0), 1, (0,)))
         self.assert_same([choice for choice, _ in moves], [(0, 0), (0, 1), (1, 0), (1, 1), (2, 0), (2, 1)])
         self.assert_same(moves[3][1], (1, (1, 0, 1), 1, ()))
+        for wrong in ((0, 2), (3, 0), (0,), (0, 0, 0), (0, True), [0, 0]):
+            self.assert_error(Refused, {"at": 0}, game_play, game, wish_rings("ding"), [wrong])
 
     def test_wrong_standings(self):
         wish = wish_rings("dong")
@@ -345,7 +357,14 @@ class TestSure(BellCase):
         self.assert_same(plan_holds(GAME, wish, ["ann"], ((at, (1,)),), against=True), True)
         self.assert_same(plan_holds(GAME, wish, ["ann"], ((at, (0,)),), against=True), False)
         self.assert_same(plan_holds(GAME, wish, ["ann"], ()), False)
+        # Up to the moment 0 she needs no choice; at the moment 1 the aim is still open.
         self.assert_same(plan_holds(GAME, wish, ["ann"], (), by=0, against=True), True)
+        self.assert_same(plan_holds(GAME, wish, ["ann"], (), by=1, against=True), False)
+        self.assert_same(plan_holds(GAME, wish, ["ann"], ((at, (0,)),), by=1, against=True), True)
+        self.assert_same(plan_holds(GAME, wish, ["ann"], (), against=True), False)
+        # Once the aim is reached, no choice is needed.
+        self.assert_same(plan_holds(GAME, wish_rings("ding"), ["ann"], (), by=1), True)
+        self.assert_same(plan_holds(GAME, wish_rings("ding"), ["ann"], ()), False)
         self.assert_same(plan_holds(GAME, wish, ["ann"], ((at, (0,)),), by=3), True)
         self.assert_same(plan_holds(GAME, wish, ["ann"], ((at, (0,)),), by=2), False)
         self.assert_same(plan_holds(GAME, wish, ["ann"], ((at, (0,)),), by=2, against=True), True)
@@ -365,12 +384,7 @@ class TestSure(BellCase):
             self.assert_same(plan_holds(GAME, wish, ["ann"], ((value, (0,)),)), False)
 
     def test_greatest(self):
-        things = []
-        for at, name in enumerate("abc"):
-            ways = [times(*[(-4 * k - 3 * at - n, 4) for k in (1, 4, 7, 10)]) for n in (0, 6)]
-            things.append((name, (("u", ways[0]), ("v", ways[1]))))
-        hall = Hall(things, [(name + name, "at", (name, 0), "any") for name, _ in things] +
-                    [("ab", "meet", ("a", "b"), "any")])
+        hall = busy_hall()
         bells = [bell[0] for bell in hall.bells]
         game = self.assert_soon(2, Game, hall, [("x", ["a"], bells), ("y", ["b"], bells), ("z", ["c"], bells)])
         wish = wish_both(wish_rings("ab", 3), wish_denied(wish_last("cc")))
