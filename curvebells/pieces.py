@@ -3,8 +3,7 @@
 from curvebells.branches import face_at
 from curvebells.cuts import NOUGHT, plain_curve
 from curvebells.halls import with_bells
-from curvebells.places import greater_ratio, lesser_ratio, moments_of, ratio_against, zero_against, zero_of, zero_order
-from curvebells.places import zeros_of
+from curvebells.places import moments_of, ratio_against, zero_against, zero_of, zero_order, zeros_of
 from curvebells.ratios import middle_ratio, ratio_order, simplest_ratio
 from curvebells.rows import ring_row
 from curvebells.strands import is_one_graph
@@ -12,9 +11,13 @@ from curvebells.tables import ratio_between
 
 
 class Ring:
-    """A ring at all worths of a piece: its first and last moment, and moments ahead of and behind its stretch."""
+    """A ring at all worths of a piece: of some bells, from its first to its last moment; what its stretch leaves out.
 
-    def __init__(self, first, last, ahead, behind):
+    Ahead and behind are moments that the stretch must not have.
+    """
+
+    def __init__(self, bells, first, last, ahead, behind):
+        self.bells = bells
         self.first = first
         self.last = last
         self.ahead = ahead
@@ -60,9 +63,8 @@ def unlike_rings(rings):
     """All rings of a dict, each once: ascending by their first moments."""
     order = []
     for ring in list(rings.values()):
-        if ring.stretch is None:
-            # Rings of several bells may be one.
-            ring.stretch = ()
+        # Rings of several bells may be one.
+        if ring not in order:
             at = len([one for one in order if zero_order(one.first, ring.first) <= 0])
             order.insert(at, ring)
     return order
@@ -76,12 +78,13 @@ def put_drawn_rings(rings, graphs, f, low, high):
             for cell in range(len(graph.is_rung)):
                 if graph.is_rung[cell] and (other, cell) in rings:
                     rings[(f, cell)] = rings[(other, cell)]
+                    rings[(f, cell)].bells = (*rings[(f, cell)].bells, graph.name)
     for at, branch in enumerate(graph.branches):
         if graph.is_rung[2 * at] and (f, 2 * at) not in rings:
             ends = [zero_on(graph, 2 * at, worth) for worth in (low, high)]
             if None not in ends:
                 first, last = ends if branch[4] > 0 else ends[::-1]
-                rings[(f, 2 * at)] = Ring(first, last, graph.turns[:at][-1:], graph.turns[at:at + 1])
+                rings[(f, 2 * at)] = Ring((graph.name,), first, last, graph.turns[:at][-1:], graph.turns[at:at + 1])
 
 
 def zero_on(graph, cell, worth):
@@ -98,9 +101,9 @@ def put_unmoved_rings(rings, handle):
     unfelt = [bell for number, bell in enumerate(handle.hall.bells) if number not in felt]
     for moment, lot in ring_row(with_bells(handle.hall, unfelt), handle.hall.first):
         zero = zero_of(moment)
-        ring = Ring(zero, zero, [], [])
+        ring = Ring(lot, zero, zero, [], [])
         for f, face in enumerate(handle.faces):
-            if face[1] != () and handle.hall.bells[face[0]][0] in lot:
+            if handle.hall.bells[face[0]][0] in lot:
                 put_unmoved_ring(rings, f, face[1], ring)
 
 
@@ -115,14 +118,40 @@ def put_unmoved_ring(rings, f, face, ring):
 
 
 def put_stretches(order):
-    """Gives rings stretches that are apart; whether there are such."""
-    for one, other in zip(order, order[1:]):
-        if zero_order(one.last, other.first) >= 0:
-            return False
-    bounds = [None] + [ratio_between(one.last, other.first) for one, other in zip(order, order[1:])] + [None]
-    for ring, low, high in zip(order, bounds, bounds[1:]):
-        ring.stretch = (time_ahead(ring, low), time_behind(ring, high))
+    """Gives ascending rings stretches, those of unlike bells apart; whether there are such."""
+    groups = grouped_rings(order)
+    if groups is None:
+        return False
+    bounds = [None]
+    for group, behind in zip(groups, groups[1:]):
+        bounds.append(ratio_between(last_of(group), behind[0].first))
+    for group, low, high in zip(groups, bounds, [*bounds[1:], None]):
+        for ring in group:
+            ring.stretch = (time_ahead(ring, low), time_behind(ring, high))
     return True
+
+
+def grouped_rings(order):
+    """Ascending rings in groups that are apart; None if rings of unlike bells are not."""
+    groups = []
+    for ring in order:
+        if not groups or zero_order(last_of(groups[-1]), ring.first) < 0:
+            groups.append([ring])
+        elif len(ring.bells) == 1 and groups[-1][0].bells == ring.bells:
+            # Rings of one bell are rings of its own, wherever they lie.
+            groups[-1].append(ring)
+        else:
+            return None
+    return groups
+
+
+def last_of(group):
+    """The last moment of some rings."""
+    last = group[0].last
+    for ring in group:
+        if zero_order(last, ring.last) < 0:
+            last = ring.last
+    return last
 
 
 def time_ahead(ring, bound):
@@ -130,7 +159,7 @@ def time_ahead(ring, bound):
     low = bound or NOUGHT
     for zero in ring.ahead:
         if zero_against(zero, low) >= 0:
-            low = greater_ratio(low, ratio_between(zero, ring.first))
+            low = ratio_between(zero, ring.first)
     if low != NOUGHT:
         return low
     while ring.first.low[0] <= 0:
@@ -143,8 +172,7 @@ def time_behind(ring, bound):
     high = bound
     for zero in ring.behind:
         if high is None or zero_against(zero, high) <= 0:
-            between = ratio_between(ring.last, zero)
-            high = between if high is None else lesser_ratio(high, between)
+            high = ratio_between(ring.last, zero)
     return simplest_ratio(ring.last.high, None) if high is None else high
 
 
@@ -157,7 +185,10 @@ def unmoved_row(face, rings, f):
         is_last = at + 1 == len(zeros)
         if (f, at) in rings:
             begin, end = rings[(f, at)].stretch
-            row = row + [(begin, int(is_silent)), (end, 2)]
+            # A ring may begin where the one ahead ends.
+            if row[-1:] != [(begin, 2)]:
+                row.append((begin, int(is_silent)))
+            row.append((end, 2))
         elif not is_last and (f, at + 1) not in rings:
             row.append((ratio_between(zero, zeros[at + 1]), 1))
         # Where a ring follows, it tells the end of what is silent.

@@ -42,7 +42,7 @@ def has_turn_worth(graph, low, high):
 def stay_holds(handle, low, high, value):
     """The tale that any value shows as a stay for two ratios, or None if it is none; any values as the ratios."""
     need_ends(low, high)
-    if not isinstance(value, tuple) or len(value) == 0 or not all([is_piece_form(handle, piece) for piece in value]):
+    if not isinstance(value, tuple) or not all([is_piece_form(handle, piece) for piece in value]):
         return None
     begins = [low] + [piece[1] for piece in value]
     if [piece[0] for piece in value] + [high] != begins:

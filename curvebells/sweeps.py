@@ -143,10 +143,8 @@ def simplest_in(part):
     if not is_part(part):
         raise InvalidSize("part")
     low, has_low, high, has_high = part
-    ratios = []
-    if low is None or high is None or place_order(low, high) < 0:
-        ratios.append(simplest_between(low, high))
-    ratios = ratios + [ratio_of(end) for end, is_had in ((low, has_low), (high, has_high)) if is_had]
+    ratios = [ratio_of(end) for end, is_had in ((low, has_low), (high, has_high)) if is_had]
+    ratios.append(simplest_between(low, high))
     told = [(one[1], abs(one[0]), one[0]) for one in ratios if one is not None]
     if not told:
         return None

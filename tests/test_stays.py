@@ -1,5 +1,6 @@
 """Promises [78] and [79]: papers by two ends that the tale is one between."""
 
+import itertools
 import unittest
 from fractions import Fraction
 
@@ -86,6 +87,10 @@ class TestStays(BellCase):
                        (((1, 3), 2), ((9, 20), 2), (None, 0)), (((1, 3), 1), ((9, 20), 2), (None, 0)),
                        (((1, 3), 0), ((9, 20), 1), (None, 0)), (((1, 3), 0), ((9, 20), 0), (None, 0))):
             self.holds((FIRST, second), None)
+        # A ring goes from below both worths to above both: one that only does half of it is none.
+        for second in ((((1, 3), 0), ((9, 20), 2), ((1, 2), 2), (None, 0)), (((1, 4), 0), ((1, 3), 2), ((9, 20), 2), (None, 0)),
+                       (((1, 3), 0), ((3, 7), 2), ((9, 20), 2), (None, 0)), (((1, 3), 0), ((2, 5), 2), ((9, 20), 2), (None, 0))):
+            self.holds((FIRST, second), None)
         # The graph of the first face turns at 1: 1 is no time of its row, and lies within no ring.
         for first in ((((9, 20), 0), ((3, 4), 2), ((1, 1), 0), ((3, 2), 0), ((3, 1), 2), (None, 0)),
                       (((9, 20), 0), ((3, 2), 2), ((8, 5), 0), ((3, 1), 2), (None, 0)),
@@ -105,6 +110,12 @@ class TestStays(BellCase):
                             ((((3, 4), 2), ((3, 2), 0), ((3, 1), 2), (None, 0)), None),
                             ((((3, 4), 1), ((3, 2), 0), ((3, 1), 1), (None, 0)), None),
                             ((((3, 4), 1), (None, 0)), None), (((None, 1),), None),
+                            # At 1/2 it is nought for the first worth, and at 2 as well.
+                            ((((1, 2), 0), ((3, 4), 1), ((3, 2), 0), ((3, 1), 2), (None, 0)), None),
+                            ((((3, 4), 1), ((2, 1), 0), ((3, 1), 2), (None, 0)), None),
+                            ((((3, 4), 3), ((3, 2), 0), ((3, 1), 2), (None, 0)), None),
+                            ((((3, 4), -1), ((3, 2), 0), ((3, 1), 2), (None, 0)), None),
+                            ((((3, 4), True), ((3, 2), 0), ((3, 1), 2), (None, 0)), None),
                             ((((3, 2), 1), ((3, 1), 2), (None, 0)), None)):
             self.holds((row,), wanted, up)
 
@@ -116,7 +127,11 @@ class TestStays(BellCase):
             self.assert_same(stay_paper(handle, (-2, 1), (1, 1)) is None, wanted is None)
             self.holds((((None, 0),),), (), handle, (-1, 1), (1, 1))
         self.holds((((None, 0),),), None, one_bell((1, 0, 1), "up", 1), (-3, 1), (1, 1))
-        # The touch must be within: 1 is no time of the row.
+        # At 1 the graph turns, so 1 is no time of the row, even where the face is not nought.
+        for row in ((((1, 1), 0), (None, 0)), (((1, 2), 0), ((1, 1), 0), ((3, 2), 0), (None, 0))):
+            self.holds((row,), None, one_bell((1, 0, 1), "up", 1), (-1, 1), (1, 1))
+            self.holds((row,), None, one_bell((1, 0, 1), "any", 1), (-1, 1), (1, 1))
+        # The touch must be within.
         self.holds(((((1, 1), 0), (None, 0)),), None, one_bell((1, 0, 1), "up", 1), (-2, 1), (1, 1))
 
     def test_faces_that_feel_nothing(self):
@@ -129,7 +144,9 @@ class TestStays(BellCase):
                 ("up", (((1, 1), 0), ((3, 2), 1), ((3, 1), 2), (None, 0)), None), ("up", ((None, 0),), None),
                 ("any", (((1, 2), 0), ((3, 1), 2), (None, 0)), None), ("any", (((3, 2), 2), ((3, 1), 2), (None, 0)), None),
                 ("any", (((1, 2), 0), ((3, 2), 2), ((7, 4), 2), ((3, 1), 2), (None, 0)), None),
-                ("up", (((3, 2), 2), ((3, 1), 2), (None, 0)), None)):
+                ("up", (((3, 2), 2), ((3, 1), 2), (None, 0)), None), ("up", (((1, 1), 1), ((3, 1), 2), (None, 0)), None),
+                ("up", (((3, 2), 1), ((2, 1), 1), (None, 0)), None), ("up", (((3, 2), 1), ((2, 1), 2), (None, 0)), None),
+                ("down", (((1, 2), 0), ((3, 2), 2), ((2, 1), 1), (None, 0)), None)):
             handle = Handle(Hall(things, [("x", "at", ("dog", 0), mode)]), "cat", 1)
             self.holds((row,), wanted, handle)
         # What touches and is silent may be calm.
@@ -177,6 +194,40 @@ class TestStays(BellCase):
         self.holds((row, row), None, handle)
         apart = ((((1, 1), 0), ((10, 7), 2), (None, 0)), (((10, 7), 0), ((2, 1), 2), (None, 0)))
         self.holds(apart, (("x",), ("y",)), handle)
+
+    def test_what_feels_beside_what_does_not(self):
+        things = [("cat", (("run", (0, 1)),)), ("dog", (("hop", (0, 1)),))]
+        handle = Handle(Hall(things, [("x", "at", ("cat", 3), "any"), ("y", "at", ("dog", 3), "any")]), "cat", 0)
+        low, high = (-1, 2), (-1, 3)
+        alike = (((2, 1), 0), ((5, 1), 2), (None, 0))
+        self.holds((alike, alike), None, handle, low, high)
+        apart = ((((13, 4), 0), ((5, 1), 2), (None, 0)), (((2, 1), 0), ((13, 4), 2), (None, 0)))
+        self.holds(apart, (("y",), ("x",)), handle, low, high)
+        self.holds(((((3, 1), 0), ((5, 1), 2), (None, 0)), apart[1]), None, handle, low, high)
+
+    def test_rings_of_one_bell(self):
+        # One is near the other at 1 - s and at -1 - s: the stretches may have times in common, or be alike.
+        things = [("cat", (("run", (0, 1)),)), ("dog", (("hop", ()),))]
+        handle = Handle(Hall(things, [("x", "near", ("cat", "dog", 1), "any")]), "cat", 0)
+        row = (((1, 1), 0), ((5, 1), 2), (None, 0))
+        for other in (row, (((1, 1), 0), ((3, 1), 2), (None, 0)), (((5, 4), 0), ((7, 2), 2), (None, 0))):
+            self.holds((row, other), (("x",), ("x",)), handle, (-3, 1), (-5, 2))
+            self.holds((row, other), None, handle, (-3, 1), (3, 2))
+
+    def test_two_go_and_two_come(self):
+        # At the worth -2 two rings of the first face come, as two of the second one go: the tale stays one.
+        things = [("cat", (("run", (-16, 24, -9, 1)),)), ("dog", (("hop", ()),))]
+        handle = Handle(Hall(things, [("x", "near", ("cat", "dog", 2), "any")]), "cat", 0)
+        sweep = Sweep(handle)
+        self.assert_same(sweep.tale_at((-2, 1)), (("x",),) * 4)
+        self.assert_same(sweep.cell_of((-9, 4)), sweep.cell_of((-7, 4)))
+        for low, high, is_there in (((-9, 4), (-7, 4), False), ((-2, 1), (-7, 4), False), ((-9, 4), (-2, 1), False),
+                                    ((-9, 4), (-17, 8), True), ((-15, 8), (-7, 4), True)):
+            paper = stay_paper(handle, low, high)
+            self.assertEqual(paper is not None, is_there)
+            self.assertEqual(has_stay(handle, low, high), is_there)
+            if is_there:
+                self.assert_same(stay_holds(handle, low, high, paper), (("x",),) * 4)
 
     def test_ends(self):
         for low, high in ((HIGH, LOW), (LOW, LOW), (None, HIGH), (LOW, None), (1, 2), ((1, 0), (2, 1)), ((2, 4), (1, 1)),
@@ -245,6 +296,42 @@ class TestPapers(BellCase):
                 if paper is not None:
                     value = paper[:-1] + ((paper[-1][0], high, paper[-1][2]),)
                     self.assertIsNone(stay_holds(handle, near, high, value))
+
+    def check_there(self, handle, low, high):
+        paper = stay_paper(handle, low, high)
+        self.assertIsNotNone(paper)
+        self.assert_same(stay_holds(handle, low, high, paper), tale_by_hall(handle, low))
+
+    def test_turns_that_are_no_ratios(self):
+        # -(1 + 2 t t) / t is highest at half the root of two.
+        for mode in ("up", "down"):
+            for high in ((-29, 10), (-2829, 1000), (-5657, 2000), (-707107, 250000)):
+                self.check_there(one_bell((1, 0, 2), mode, 1), (-3, 1), high)
+                self.check_there(one_bell((-1, 0, -2), mode, 1), (-high[0], high[1]), (3, 1))
+        self.check_there(one_bell((1, 0, 2), "any", 1), (-3, 1), (-29, 10))
+
+    def test_ends_that_are_met_at_simple_times(self):
+        for mode in ("up", "down", "any"):
+            self.check_there(one_bell((-1, 0, -1), mode, 1), (5, 2), (8, 3))
+            self.check_there(one_bell((1, 0, 1), mode, 1), (-8, 3), (-5, 2))
+
+    def test_branches_between_turns(self):
+        for mode in ("up", "down", "touch", "any"):
+            for way in ((-16, 24, -9, 1), (16, -24, 9, -1), (-35, 50, -12, 1)):
+                handle = one_bell(way, mode, 0)
+                self.check_there(handle, (-1, 2), (-1, 3))
+                self.check_there(handle, (1, 3), (1, 2))
+                for low, high in (((-3, 1), (-1, 1)), ((1, 1), (3, 1)), ((-399, 100), (-1, 100))):
+                    if has_stay(handle, low, high):
+                        self.check_there(handle, low, high)
+
+    def test_silent_moments_of_what_feels_nothing(self):
+        things = [("cat", (("run", (0, 1)),)), ("dog", (("hop", (-6, 11, -6, 1)),)), ("eel", (("hop", (3, -4, 1)),))]
+        for modes in itertools.product(("up", "down", "touch", "any"), repeat=2):
+            bells = [("x", "at", ("dog", 0), modes[0]), ("y", "at", ("eel", 0), modes[1]), ("z", "at", ("dog", 0), "up")]
+            self.check_there(Handle(Hall(things, bells), "cat", 1), (-1, 2), (5, 1))
+        bells = [("x", "at", ("dog", 0), "touch"), ("y", "at", ("eel", 0), "down"), ("z", "at", ("cat", 2), "any")]
+        self.check_there(Handle(Hall(things, bells), "cat", 0), (-1, 2), (1, 2))
 
     def test_wide_ends(self):
         rng = source(212)

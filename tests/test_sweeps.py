@@ -86,6 +86,16 @@ class TestSweep(BellCase):
         self.assert_same(sweep.part_of((-1, 1))[:2], (None, False))
         self.assert_same(sweep.part_of((-1, 1))[3], True)
 
+    def test_several_turns(self):
+        # The way is highest at 2, where it is 4, and lowest at 4, where it is 0.
+        things = [("cat", (("run", (-16, 24, -9, 1)),))]
+        for mode, tales in (("touch", ((), (("x",),), (), (("x",),), ())),
+                            ("any", ((("x",),), (("x",),) * 2, (("x",),) * 3, (("x",),) * 2, (("x",),), (), ())),
+                            ("down", ((), (), (("x",),), (), ()))):
+            sweep = Sweep(Handle(Hall(things, [("x", "at", ("cat", 0), mode)]), "cat", 0))
+            self.assert_same(sweep.tales, tales)
+            self.assert_same([ratio_of(one) for one in sweep.breaks], [(-4, 1), (0, 1), (16, 1)][:len(tales) // 2])
+
     def test_lots_that_part(self):
         # Two bells at 3 ring at once at the worth 0 alone.
         hall = Hall([("cat", (("run", (0, 1)),)), ("dog", (("sit", (0, 1)),))],
