@@ -1,9 +1,8 @@
 """Pieces of stays: for worths that lie near enough to one another, stretches of time for each face."""
 
-from curvebells.branches import face_at
-from curvebells.cuts import NOUGHT, plain_curve
+from curvebells.cuts import NOUGHT
 from curvebells.halls import with_bells
-from curvebells.places import moments_of, ratio_against, zero_against, zero_of, zero_order, zeros_of
+from curvebells.places import moments_of, ratio_against, zero_against, zero_of, zero_order
 from curvebells.ratios import middle_ratio, ratio_order, simplest_ratio
 from curvebells.rows import ring_row
 from curvebells.strands import is_one_graph
@@ -81,18 +80,10 @@ def put_drawn_rings(rings, graphs, f, low, high):
                     rings[(f, cell)].bells = (*rings[(f, cell)].bells, graph.name)
     for at, branch in enumerate(graph.branches):
         if graph.is_rung[2 * at] and (f, 2 * at) not in rings:
-            ends = [zero_on(graph, 2 * at, worth) for worth in (low, high)]
+            ends = [graph.zero_on(2 * at, worth) for worth in (low, high)]
             if None not in ends:
                 first, last = ends if branch[4] > 0 else ends[::-1]
                 rings[(f, 2 * at)] = Ring((graph.name,), first, last, graph.turns[:at][-1:], graph.turns[at:at + 1])
-
-
-def zero_on(graph, cell, worth):
-    """The moment at which a graph has a ratio as its worth on a branch, or None."""
-    for zero in zeros_of(plain_curve(face_at(graph.a, graph.c, graph.j, worth))):
-        if zero_against(zero, NOUGHT) > 0 and graph.cell_at(zero) == cell:
-            return zero
-    return None
 
 
 def put_unmoved_rings(rings, handle):

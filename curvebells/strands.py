@@ -1,9 +1,9 @@
 """Strands: rings of a handle's bells as the worth is drawn, each one along a graph."""
 
-from curvebells.branches import branch_mode, graph_branches, graph_turns, hum_worth
+from curvebells.branches import branch_mode, face_at, graph_branches, graph_turns, hum_worth
 from curvebells.curves import curve_minus, curve_scaled, curve_worth, without_end
-from curvebells.cuts import NOUGHT, inner_cut
-from curvebells.places import halve_longer, span_order, zero_against, zero_among, zero_of
+from curvebells.cuts import NOUGHT, inner_cut, plain_curve
+from curvebells.places import halve_longer, span_order, zero_against, zero_among, zero_of, zeros_of
 from curvebells.ratios import middle_ratio, ratio_by
 from curvebells.values import as_lot
 
@@ -26,11 +26,20 @@ class Graph:
             if self.is_rung:
                 self.is_rung.append(mode in ("any", "touch"))
             self.is_rung.append(mode in ("any", branch_mode(handle, f, branch[4])))
+        self.known = {}
 
     def cell_at(self, zero):
         """The cell in which a moment lies."""
         ahead, is_there = zero_among(zero, self.turns)
         return 2 * ahead + int(is_there)
+
+    def zero_on(self, cell, worth):
+        """The moment at which the graph has a ratio as its worth on a branch, or None."""
+        if worth not in self.known:
+            zeros = zeros_of(plain_curve(face_at(self.a, self.c, self.j, worth)))
+            later = [zero for zero in zeros if zero_against(zero, NOUGHT) > 0]
+            self.known[worth] = {self.cell_at(zero): zero for zero in later}
+        return self.known[worth].get(cell)
 
     def worth_at(self, one):
         """The ratio that is the worth at a time that is a ratio."""

@@ -91,6 +91,9 @@ class TestStays(BellCase):
         for second in ((((1, 3), 0), ((9, 20), 2), ((1, 2), 2), (None, 0)), (((1, 4), 0), ((1, 3), 2), ((9, 20), 2), (None, 0)),
                        (((1, 3), 0), ((3, 7), 2), ((9, 20), 2), (None, 0)), (((1, 3), 0), ((2, 5), 2), ((9, 20), 2), (None, 0))):
             self.holds((FIRST, second), None)
+        later = (((12, 25), 0),) + FIRST[1:]
+        self.holds((later, SECOND), TALE)
+        self.holds((later, (((1, 3), 0), ((9, 20), 2), ((12, 25), 2), (None, 0))), None)
         # The graph of the first face turns at 1: 1 is no time of its row, and lies within no ring.
         for first in ((((9, 20), 0), ((3, 4), 2), ((1, 1), 0), ((3, 2), 0), ((3, 1), 2), (None, 0)),
                       (((9, 20), 0), ((3, 2), 2), ((8, 5), 0), ((3, 1), 2), (None, 0)),
@@ -213,6 +216,14 @@ class TestStays(BellCase):
         for other in (row, (((1, 1), 0), ((3, 1), 2), (None, 0)), (((5, 4), 0), ((7, 2), 2), (None, 0))):
             self.holds((row, other), (("x",), ("x",)), handle, (-3, 1), (-5, 2))
             self.holds((row, other), None, handle, (-3, 1), (3, 2))
+        # So one piece will do, though each of both rings comes to times of the other one.
+        self.assertEqual(len(stay_paper(handle, (-6, 1), (-2, 1))), 1)
+        for modes in (("any", "any"), ("any", "up"), ("down", "any")):
+            twins = [(name, "near", ("cat", "dog", 1), mode) for name, mode in zip("xy", modes)]
+            twins = Handle(Hall(things, twins), "cat", 0)
+            for low, high in (((-3, 1), (-5, 2)), ((-6, 1), (-2, 1))):
+                paper = stay_paper(twins, low, high)
+                self.assert_same(stay_holds(twins, low, high, paper), tale_by_hall(twins, low))
 
     def test_two_go_and_two_come(self):
         # At the worth -2 two rings of the first face come, as two of the second one go: the tale stays one.
