@@ -174,11 +174,16 @@ def number_of_name(rows, name):
     raise NoName(name)
 
 
+def is_ways(hall, value):
+    """Whether any value is ways of a hall."""
+    if not isinstance(value, tuple) or len(value) != len(hall.things):
+        return False
+    return all([is_number(way) and way < len(thing[1]) for way, thing in zip(value, hall.things)])
+
+
 def followed_curves(hall, ways):
     """The curves that the things follow; any value as the ways."""
-    if not isinstance(ways, tuple) or len(ways) != len(hall.things):
-        raise InvalidHall("ways")
-    if not all([is_number(way) and way < len(thing[1]) for way, thing in zip(ways, hall.things)]):
+    if not is_ways(hall, ways):
         raise InvalidHall("ways")
     return tuple([thing[1][way][1] for way, thing in zip(ways, hall.things)])
 

@@ -1,6 +1,6 @@
 """Plays: the moves of a game with a wish, and all that comes of them."""
 
-from curvebells.halls import bell_number
+from curvebells.halls import bell_number, is_ways
 from curvebells.values import is_number
 
 
@@ -22,9 +22,7 @@ def is_standing(game, wish, value):
     number, ways, state, waiting = value
     if not is_number(number) or number > len(game.course.moments) or not is_number(state) or state >= wish.states:
         return False
-    if not isinstance(ways, tuple) or len(ways) != len(game.hall.things) or not isinstance(waiting, tuple):
-        return False
-    if not all([is_number(way) and way < len(thing[1]) for way, thing in zip(ways, game.hall.things)]):
+    if not is_ways(game.hall, ways) or not isinstance(waiting, tuple):
         return False
     if not all([is_number(hand) and hand < len(game.hands) for hand in waiting]):
         return False

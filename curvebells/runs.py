@@ -87,11 +87,20 @@ def next_behind(rings, number):
 def acting_rules(ruled, lot, ways, heard, deaf):
     """The numbers of the rules that act at a lot, ascending; heard has how often each bell has rung so far."""
     acting = {}
-    for number, (bell, whiles, thing, _) in enumerate(ruled.rules):
-        if bell in lot and thing not in acting and is_followed(ruled.hall, whiles, ways):
-            if (number, heard[bell]) not in deaf:
-                acting[thing] = number
+    for number in fitting_rules(ruled, lot, ways):
+        bell, thing = ruled.rules[number][0], ruled.rules[number][2]
+        if thing not in acting and (number, heard[bell]) not in deaf:
+            acting[thing] = number
     return tuple(sorted(list(acting.values())))
+
+
+def fitting_rules(ruled, lot, ways):
+    """The numbers of the rules that fit a lot, with these ways ahead of it, if none is deaf; ascending."""
+    fitting = []
+    for number, rule in enumerate(ruled.rules):
+        if rule[0] in lot and is_followed(ruled.hall, rule[1], ways):
+            fitting.append(number)
+    return fitting
 
 
 def is_followed(hall, whiles, ways):

@@ -1,7 +1,7 @@
 """Bands: halls whose things turn at told moments; and when a saying is true of one."""
 
-from curvebells.errors import InvalidHall, InvalidPlace, InvalidTurns
-from curvebells.halls import bell_number, followed_curves, thing_number
+from curvebells.errors import InvalidPlace, InvalidTurns
+from curvebells.halls import bell_number, is_ways, thing_number
 from curvebells.lines import places_of_spans
 from curvebells.places import is_moment, zero_of, zero_order
 from curvebells.rows import ring_row, tale_of
@@ -33,13 +33,9 @@ class Band:
 
 def is_turn(hall, value):
     """Whether any value is a pair of a moment and ways of a hall."""
-    if not isinstance(value, tuple) or len(value) != 2 or not is_moment(value[0]):
+    if not isinstance(value, tuple) or len(value) != 2:
         return False
-    try:
-        followed_curves(hall, value[1])
-    except InvalidHall:
-        return False
-    return True
+    return is_moment(value[0]) and is_ways(hall, value[1])
 
 
 def turned_row(hall, turns):

@@ -70,9 +70,9 @@ def read_integer(word):
 
 
 def is_same(value, wanted):
-    """Whether any value equals a tuple of tuples, integers and strings, no bool an integer and no list a tuple."""
+    """Whether any value equals a tuple of tuples and others, no lists within; no bool an integer, no list a tuple."""
     if isinstance(wanted, tuple):
         if not isinstance(value, tuple) or len(value) != len(wanted):
             return False
         return all([is_same(one, other) for one, other in zip(value, wanted)])
-    return not isinstance(value, bool) and value == wanted
+    return isinstance(value, bool) == isinstance(wanted, bool) and value == wanted

@@ -68,10 +68,13 @@ SAYINGS = """
     >>> from curvebells.places import ratio_place
     >>> from curvebells.sayings import Band, first_time, holds_at
     >>> from curvebells.stairs import Stair
+    >>> from curvebells.valid import in_all_halls
     >>> band = Band(Hall.read("thing cat\\nway run 0 0 1\\nbell ding at cat 1 any\\nbell dong at cat 2 any"))
     >>> calm = Stair([("rings", "dong"), ("not", 0), ("rings", "ding"), ("since", 1, 2)])
     >>> [holds_at(band, calm, ratio_place(one)) for one in ((1, 1), (7, 5), (3, 2))], first_time(band, calm)[1]
     ([False, True, False], False)
+    >>> in_all_halls(Stair.read("above a 0\\nuntil 0 0\\nnot 0\\nor 1 2"))[0]
+    True
 """
 
 RUNS = """
@@ -86,9 +89,38 @@ RUNS = """
 
 ROOMS = """
     >>> from curvebells.rooms import Rooms, some_weave
+    >>> from curvebells.stamps import stamp_of
     >>> rooms = Rooms([("a", (("d",), ("e",))), ("b", (("f",),))], (), [(("a", 1), ("b", 1))])
-    >>> some_weave(rooms)
-    ((('a', 1),), (('a', 2), ('b', 1)))
+    >>> some_weave(rooms), stamp_of(rooms, ("b", 1))
+    (((('a', 1),), (('a', 2), ('b', 1))), (1, 1))
+"""
+
+WATCHERS = """
+    >>> from curvebells.halls import Hall
+    >>> from curvebells.sayings import Band
+    >>> from curvebells.watchers import everybody_knows, heard_fits, knows_points, together_know
+    >>> things = [("a", (("w", (0, 1)),))]
+    >>> early = Hall(things, [("x", "at", ("a", 1), "any"), ("y", "at", ("a", 2), "any")])
+    >>> later = Hall(things, [("x", "at", ("a", 2), "any"), ("y", "at", ("a", 1), "any")])
+    >>> houses, ears, both = (Band(early), Band(later)), (("x",), ("y",)), ((0, 2), (1, 2))
+    >>> heard_fits(houses, ("x",), (("x",),))
+    ((0, 1), (0, 2), (1, 2))
+    >>> everybody_knows(houses, ears, both), together_know(houses, ears, both)
+    ((), ((0, 2), (1, 2)))
+    >>> together_know(houses, ears, ((0, 2),)), knows_points(houses, ("x", "y"), ((0, 2),))
+    ((), ((0, 2),))
+"""
+
+LIVE = """
+    >>> from curvebells.halls import Hall
+    >>> from curvebells.live import Live
+    >>> live = Live(Hall.read("thing cat\\nway run 0 1\\nway sit 9\\nbell ding at cat 2 any\\nbell dong at cat 4 any"))
+    >>> live.deed("when ding turn cat sit")
+    >>> live.tale, live.changed
+    ((('ding',),), (((((-4, 1), 1), ('dong',)),), ()))
+    >>> live.undo()
+    >>> live.changed
+    ((), ((((-4, 1), 1), ('dong',)),))
 """
 
 SWEEPS = """
@@ -154,6 +186,8 @@ def load_tests(loader, tests, pattern):
     suite.addTest(suite_of("runs", RUNS))
     suite.addTest(suite_of("rooms", ROOMS))
     suite.addTest(suite_of("sweeps and stays", SWEEPS))
+    suite.addTest(suite_of("watchers", WATCHERS))
+    suite.addTest(suite_of("live halls", LIVE))
     suite.addTest(suite_of("told", TOLD))
     suite.addTest(suite_of("wishes", WISHES))
     return suite

@@ -62,6 +62,22 @@ FUNCTIONS = {
         broken_join(rooms, weave) is_weave(rooms, value)""",
     "runs": "run_paper(ruled) run_holds(ruled, value)",
     "stays": "stay_holds(handle, low, high, value) stay_paper(handle, low, high)",
+    "threats": "kept_run(game, wishes, run) kept_ends(game, wishes)",
+    "valid": "in_all_halls(stair) valid_holds(stair, value) follows_from(one, other)",
+    "watchers": """house_points(houses) point_time(houses, point) heard_at(houses, watcher, point)
+        heard_fits(houses, watcher, heard) is_always(houses, point, stair) doubt_of(houses, watcher, heard, stair)
+        sure_points(houses, watcher, stair) knows_points(houses, watcher, some) together_know(houses, watchers, some)
+        everybody_knows(houses, watchers, some) known_levels(houses, watchers, some)
+        common_points(houses, watchers, some) common_chain(houses, watchers, some, point) when_known(houses, watcher)
+        never_known(houses, watcher)""",
+    "pools": """clashes_of(ruled) kept_orders(ruled) bound_pairs(ruled) parted_order(ruled, order) keeps_tale(ruled, lot)
+        least_kept(ruled) keeping_gap(ruled) serving_rules(ruled, wish) never_tree(ruled, wish)
+        tree_holds(ruled, wish, value) deafened_rules(ruled, wish, most) deaf_tree(ruled, wish, most)
+        deaf_holds(ruled, wish, most, value)""",
+    "stamps": """stamp_of(rooms, step) step_relation(rooms, one, other) join_road(rooms, one, other)
+        is_road(rooms, one, other, value) three_weaves(rooms, one, other) kept_calls(rooms) missing_joins(rooms, weave)""",
+    "starts": """start_standings(ruled) start_of(ruled, start) start_names(ruled) coming_from(ruled, lots)
+        alike_hands(one, other) alike_paper(one, other) alike_holds(one, other, value) wish_comings(ruled, wish)""",
 }
 
 CLASSES = {
@@ -88,6 +104,7 @@ CLASSES = {
         "text": "(self)", "__eq__": "(self, other)",
     },
     ("runs", "Run", "(ruled, since=None, ways=None, *, deaf=())"): {"ways_at": "(self, moment)"},
+    ("live", "Live", "(hall)"): {"deed": "(self, text)", "undo": "(self)", "redo": "(self)"},
 }
 
 ERRORS = {
