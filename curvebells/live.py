@@ -92,8 +92,8 @@ def read_deed(text):
 
 
 def told_deed(word, told):
-    """The deed of a word, None if one of what else is told is None, or nothing is."""
-    return None if None in told or len(told) == 0 else (word, *told)
+    """The deed of a word, None if one of what else is told is None."""
+    return None if None in told else (word, *told)
 
 
 def read_names(words, many):

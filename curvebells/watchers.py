@@ -95,7 +95,7 @@ def need_heard(houses, watcher, value):
         raise InvalidHeard(-1)
     tales = [thin_tale(band.tale, watcher) for band in houses]
     for at, lot in enumerate(value):
-        tales = [tale for tale in tales if is_lot(lot) and tale[at:at + 1] == (lot,)]
+        tales = [tale for tale in tales if tale[at:at + 1] == (lot,)]
         if len(tales) == 0:
             raise InvalidHeard(at)
 

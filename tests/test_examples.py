@@ -90,9 +90,12 @@ RUNS = """
 ROOMS = """
     >>> from curvebells.rooms import Rooms, some_weave
     >>> from curvebells.stamps import stamp_of
+    >>> from curvebells.weaves import how_many, meeting_barred, wish_fence
     >>> rooms = Rooms([("a", (("d",), ("e",))), ("b", (("f",),))], (), [(("a", 1), ("b", 1))])
-    >>> some_weave(rooms), stamp_of(rooms, ("b", 1))
-    (((('a', 1),), (('a', 2), ('b', 1))), (1, 1))
+    >>> some_weave(rooms), how_many(rooms), stamp_of(rooms, ("b", 1))
+    (((('a', 1),), (('a', 2), ('b', 1))), 3, (1, 1))
+    >>> meeting_barred(rooms, [("a", 0), ("b", 2)]), wish_fence(rooms, [(1, 0)])
+    (('a', 'b', (('a', 1), ('b', 1))), ((0, 0),))
 """
 
 WATCHERS = """
@@ -121,6 +124,23 @@ LIVE = """
     >>> live.undo()
     >>> live.changed
     ((), ((((-4, 1), 1), ('dong',)),))
+"""
+
+ALIKE = """
+    >>> from curvebells.alike import alike_lots, parting_lots
+    >>> from curvebells.made import heights_fault, heights_hall, heights_turns
+    >>> from curvebells.rows import ring_row, tale_of
+    >>> from curvebells.tones import finest_deaf, lots_matched, tones_needed
+    >>> one, other = (("x",), ("y",), ("x",)), (("x",), ("x",), ("y",))
+    >>> parting_lots(one, other), parting_lots(one, one[:2], surely=True), alike_lots(one, other)
+    ((('x', 'y'),), (), (('x',), ('y',)))
+    >>> tones_needed(one, other), lots_matched(one, other), finest_deaf((one, other), ("x", "y"))
+    ((2, ('x', 'y')), (0, 2, 1), ((0, 1), (1, 0), (1, 1)))
+    >>> heights_turns(one), heights_turns(other), heights_fault(one + (("z",), ("x",)))
+    (('up', 'touch', 'down'), ('down', 'up', 'up'), ('end', 'x'))
+    >>> hall = heights_hall(one)
+    >>> tale_of(ring_row(hall, hall.first)) == one
+    True
 """
 
 SWEEPS = """
@@ -188,6 +208,7 @@ def load_tests(loader, tests, pattern):
     suite.addTest(suite_of("sweeps and stays", SWEEPS))
     suite.addTest(suite_of("watchers", WATCHERS))
     suite.addTest(suite_of("live halls", LIVE))
+    suite.addTest(suite_of("alike, tones, heights", ALIKE))
     suite.addTest(suite_of("told", TOLD))
     suite.addTest(suite_of("wishes", WISHES))
     return suite

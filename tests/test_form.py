@@ -98,7 +98,14 @@ class TestFiles(unittest.TestCase):
             for node in tree.body[1:]:
                 self.assertIsInstance(node, kinds, path.name)
                 if isinstance(node, ast.Assign):
-                    ast.literal_eval(node.value)
+                    ast.literal_eval(self.without_functions(node.value, tree, node.lineno))
+
+    def without_functions(self, value, tree, line):
+        """A value, the functions of its file that are defined above it as numbers."""
+        above = {one.name for one in tree.body if isinstance(one, ast.FunctionDef) and one.lineno < line}
+        if isinstance(value, ast.Dict):
+            value.values = [ast.Constant(0) if isinstance(one, ast.Name) and one.id in above else one for one in value.values]
+        return value
 
 
 class TestImports(unittest.TestCase):

@@ -78,6 +78,20 @@ FUNCTIONS = {
         is_road(rooms, one, other, value) three_weaves(rooms, one, other) kept_calls(rooms) missing_joins(rooms, weave)""",
     "starts": """start_standings(ruled) start_of(ruled, start) start_names(ruled) coming_from(ruled, lots)
         alike_hands(one, other) alike_paper(one, other) alike_holds(one, other, value) wish_comings(ruled, wish)""",
+    "alike": """bells_of(tales) clock_pairs(row, other) parting_lots(one, other, *, surely=False)
+        parting_index(one, other, names) alike_lots(one, other, *, surely=False)
+        unparted_pairs(tales, names, *, surely=False) least_lots(tales, *, surely=False) deaf_lots(tales, *, surely=False)
+        weave_apart(one, other) joins_followed(one, other)""",
+    "weaves": """how_many(rooms) nth_weave(rooms, number) weave_passes(rooms, weave) number_of(rooms, weave)
+        meeting_weave(rooms, told) meeting_barred(rooms, told) is_barred(rooms, told, value) passing_weave(rooms, wish)
+        avoiding_weave(rooms, wish) always_passes(rooms, wish) weaves_through(rooms, wish) wish_fence(rooms, wish)
+        is_fence(rooms, wish, value)""",
+    "made": """own_hall(lots) heights_fault(lots) heights_order(lots) heights_turns(lots) heights_degree(lots)
+        heights_hall(lots)""",
+    "tones": """plain_naming(naming) is_coarser(naming, other) heard_tones(lots, bells, naming)
+        unheard_pairs(tales, bells, naming) coarsest_namings(tales, bells) finest_deaf(tales, bells)
+        fewest_tones(tales, bells) tones_needed(one, other) lots_matched(one, other)""",
+    "checker": "sheet_holds(kind, question, value) wrong_sheets(sheets)",
 }
 
 CLASSES = {
@@ -105,6 +119,10 @@ CLASSES = {
     },
     ("runs", "Run", "(ruled, since=None, ways=None, *, deaf=())"): {"ways_at": "(self, moment)"},
     ("live", "Live", "(hall)"): {"deed": "(self, text)", "undo": "(self)", "redo": "(self)"},
+    ("desk", "Desk", "()"): {"say": "(self, command)"},
+    ("books", "Book", "()"): {
+        "put": "(self, sheet)", "forget": "(self, number)", "knows": "(self, kind, question)",
+    },
 }
 
 ERRORS = {

@@ -133,7 +133,7 @@ class TestDeeds(BellCase):
                  "drop thing cat dog", "drop thing 1", "drop way cat", "drop way cat run sit", "drop way", "drop bell",
                  "drop bell ding dong", "drop bell 1", "drop rule", "drop rule -1", "drop rule 00", "drop rule 01",
                  "drop rule x", "drop rule 1234567890", "drop rule 0 1", "drop rule ", "drop mode ding", "drop hall cat",
-                 "drop  rule 0", "undo", "redo", "hall", "", " ", "do thing dog walk 1")
+                 "drop  rule 0", "keep rule 0", "keep bell ding", "undo", "redo", "hall", "", " ", "do thing dog walk 1")
         for value in ANY_VALUES + wrong + (["drop", "rule", "0"], ("drop rule 0",), b"drop rule 0"):
             self.assert_error(InvalidCommand, {}, live.deed, value)
             self.assertEqual(picture(live), before)

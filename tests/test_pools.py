@@ -135,6 +135,14 @@ class TestOrders(BellCase):
             self.assert_same(bound_pairs(ruled=ruled), ())
             self.assert_same(parted_order(ruled, list(range(len(ruled.rules)))[::-1]), None)
 
+    def test_clash_at_a_later_round(self):
+        # At 3 the cat turns back; at 4 the second and the third rule fit by what it follows then.
+        ruled = Ruled.read(EXAMPLE, "when tick turn cat back\nwhen tock while cat back turn cat run\n"
+                           "when tock while cat back turn cat back")
+        self.assert_same(clashes_of(ruled), ((1, "cat", (1, 2)),))
+        self.assert_same(bound_pairs(ruled), ((1, 2),))
+        self.assert_same(parted_order(ruled, (2, 1, 0)), (1, "cat"))
+
     def test_things_stand_as_in_the_hall(self):
         hall = Hall.read("thing dog\nway a 0 1\nway b 5\nthing cat\nway u 0 1\nway v 9\nbell x at cat 2 any")
         rules = [("x", (), "cat", "v"), ("x", (), "dog", "b"), ("x", (), "dog", "a"), ("x", (), "cat", "u"),
@@ -243,6 +251,7 @@ class TestServing(BellCase):
                       (1, (0, (), ()), (0, (), ())), (2, (0, (1, (), ()), ()), (0, (1, (), ()), ()))):
             self.assert_same(tree_holds(CLASHING, NEVER, value), is_known_tree(CLASHING, NEVER, value))
         self.assert_same(tree_holds(ruled=CLASHING, wish=NEVER, value=(0, (1, (), ()), ())), True)
+        self.assert_same(tree_holds(CLASHING, NEVER, (0, (1, (), ()), (0, (1, (), ()), ()))), False)
         for value in ((), (0, (), ()), (1, (), ()), (2, (), ()), (0, (0, (), ()), ()), (0, (1, (), ()), (0, (), ())),
                       (0, (1, (1, (), ()), ()), ()), (3, (), ()), (-1, (), ()), (False, (1, (), ()), ()),
                       [0, (1, (), ()), ()], (0, [1, (), ()], ()), (0, (1, (), ()), []), (0, (1, (), ())), (0, (1, (), ()), (), ()),
@@ -307,9 +316,19 @@ class TestDeaf(BellCase):
         self.assert_same(deaf_tree(RULED, NEVER, 1), (((0, 1), ()), ((1, 1), ()), ((1, 2), ())))
         self.assert_same(deaf_holds(RULED, wish, 0, ()), True)
         self.assert_same(deaf_holds(RULED, wish_rings("tock"), 0, ()), False)
+        self.assert_same(deaf_holds(RULED, wish_rings("tock"), 0, None), False)
+        self.assert_same(deaf_holds(RULED, wish, 1, None), False)
         self.assert_same(deaf_holds(RULED, wish, 1, (((0, 1), ()), ((1, 1), ()), ((1, 2), ()))), False)
         self.assert_same(deaf_tree(Ruled(EXAMPLE), NEVER, 2), ())
         self.assert_same(deaf_holds(Ruled(EXAMPLE), NEVER, 2, ()), True)
+
+    def test_the_later_one_must_be_deaf_first(self):
+        # Only behind a that goes unheard does c ring: still the pair of c is told first.
+        hall = Hall.read("thing cat\nway u 0 1\nway v 11 -1\nway w 3\nbell a at cat 3 any\nbell b at cat 8 up\n"
+                         "bell c at cat 5 up")
+        ruled = Ruled.read(hall, "when b turn cat u\nwhen c turn cat v\nwhen a turn cat v")
+        self.assertNotIn((1, 1), acted_pairs(ruled, ()))
+        self.assert_same(deafened_rules(ruled, wish_rings("b"), 2), ((1, 1), (2, 1)))
 
     def test_holds_is_this_tree_alone(self):
         tree = (((0, 1), ()), ((1, 1), ()), ((1, 2), ()))

@@ -34,6 +34,32 @@ def known_tale(ruled, start):
     return Run(ruled, since, ways).tale
 
 
+def known_next(ruled, course, start):
+    """(next lot, start behind it) by a run, or None."""
+    number, ways = start
+    rounds = Run(ruled, course.moments[number - 1] if number else None, ways).rounds
+    if not rounds:
+        return None
+    moment, lot, _, behind = rounds[0]
+    places = [place_order(told, moment) for told in course.moments]
+    return lot, (places.index(0) + 1, behind)
+
+
+def led_pairs(one, other, pairs):
+    """Pairs of starts, with all that they lead to; and whether all that rings next is alike."""
+    course, met, is_alike = Course(one.hall), set(), True
+    todo = list(pairs)
+    while todo:
+        pair = todo.pop()
+        if pair not in met:
+            met.add(pair)
+            led, beside = known_next(one, course, pair[0]), known_next(other, course, pair[1])
+            is_alike = is_alike and (led and led[0]) == (beside and beside[0])
+            if led and beside:
+                todo.append((led[1], beside[1]))
+    return met, is_alike
+
+
 def other_rules(rng, ruled):
     """The same hall with the rules turned about, some left out, or one twice."""
     lot = sorted(rng.sample(range(len(ruled.rules)), rng.randint(0, len(ruled.rules))))
@@ -173,6 +199,25 @@ class TestAlike(BellCase):
             if diagonal != paper:
                 self.assert_same(alike_holds(one, other, diagonal), False)
         self.assertGreater(min(told.values()), 10)
+
+
+    def test_pairs_that_lead_on(self):
+        rng = source(415)
+        told = {True: 0, False: 0}
+        for _ in range(40):
+            one = some_or_lively(rng, 3)
+            other = rng.choice([one, other_rules(rng, one)])
+            starts = known_starts(one)
+            pairs = [(start, start) for start in starts] + [(rng.choice(starts), rng.choice(starts)) for _ in range(2)]
+            met, is_alike = led_pairs(one, other, pairs)
+            value = tuple(sorted(met))
+            self.assert_same(alike_holds(one, other, value), is_alike)
+            told[is_alike] += 1
+            at = rng.randrange(len(value))
+            less = value[:at] + value[at + 1:]
+            wanted = value[at][0] != value[at][1] and is_alike and led_pairs(one, other, less)[0] == set(less)
+            self.assert_same(alike_holds(one, other, less), wanted)
+        self.assertGreater(min(told.values()), 8)
 
 
 class TestComings(BellCase):

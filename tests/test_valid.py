@@ -113,14 +113,19 @@ def is_ending(stair, word, kind):
     return all(bit == (truths[row[1]] and truths[row[2]]) for row, bit in zip(timed, kind[1]) if row[0] == word)
 
 
-def known_paper(stair, value):
-    """Whether a tuple of kinds is a paper, by the words of [41]."""
+def known_behind(stair):
+    """For each kind those that can follow it."""
     kinds = all_kinds(stair)
-    firsts = [kind for kind in kinds
+    return {kind: [behind for behind in kinds if known_follows(stair, kind, behind)] for kind in kinds}
+
+
+def known_paper(stair, behind, value):
+    """Whether a tuple of kinds is a paper, by the words of [41]."""
+    firsts = [kind for kind in behind
               if is_ending(stair, "since", kind) and kind[2] != known_truths(stair, *kind[:2])[-1]]
     if not set(firsts) <= set(value) or any(kind[2] and is_ending(stair, "until", kind) for kind in value):
         return False
-    return all(behind in value for kind in set(value) for behind in kinds if known_follows(stair, kind, behind))
+    return all(led in value for kind in value for led in behind[kind])
 
 
 # What holds of all times, all halls, whatever i and j are; some of it is well known.
@@ -147,6 +152,10 @@ NOT_VALID = (
     LATER,
     rows_with(("until", 0, 1), ("not", 2)),
     rows_with(("since", 0, 1), ("since", 1, 0), ("or", 2, 3)),
+    # It is not so, or was not so: of what is below 0, above 0, nought at all times.
+    Stair([("above", 0, "a"), ("not", 0), ("or", 0, 1), ("since", 2, 1), ("or", 1, 3)]),
+    Stair([("above", "a", 0), ("not", 0), ("or", 0, 1), ("since", 2, 1), ("or", 1, 3)]),
+    Stair([("above", 0, "a"), ("above", "a", 0), ("or", 0, 1), ("not", 2), ("or", 2, 3), ("since", 4, 2), ("or", 2, 5)]),
     # That it is nought now and then only: the curve () is nought throughout.
     Stair([("above", "a", 0), ("above", 0, "a"), ("or", 0, 1), ("not", 2), ("or", 2, 3), ("until", 4, 2)]),
 )
@@ -267,6 +276,9 @@ class TestPapers(BellCase):
         for value in ANY_VALUES:
             self.assert_same(valid_holds(EXAMPLE, value), False)
             self.assert_same(valid_holds(EXAMPLE, kinds + (value,)), False)
+            self.assert_same(valid_holds(EXAMPLE, kinds + ((value, (True,), False),)), False)
+            if value.__class__ is not int or abs(value) > 1:
+                self.assert_same(valid_holds(EXAMPLE, kinds + (((value,), (True,), False),)), False)
 
     def test_more_than_needed(self):
         # From the start a since is i and j; a kind that never comes may stand there, if all behind it does.
@@ -290,22 +302,37 @@ class TestPapers(BellCase):
 
     def test_by_the_words(self):
         rng = source(433)
-        told = {True: 0, False: 0}
-        for _ in range(120):
+        told, two = {True: 0, False: 0}, 0
+        for _ in range(90):
             stair = some_free(rng, 5)
-            if len(all_kinds(stair)) > 24:
+            if len(all_kinds(stair)) > 36:
                 continue
-            answer = in_all_halls(stair)
+            two += len(names_of(stair)) == 2 and len(all_kinds(stair)) == 36
+            answer, behind = in_all_halls(stair), known_behind(stair)
             kinds = answer[1] if answer[0] else tuple(all_kinds(stair))
             rest = [kind for kind in all_kinds(stair) if kind not in kinds]
             values = [kinds] + [kinds + (kind,) for kind in rest]
             values += [kinds[:at] + kinds[at + 1:] for at in range(len(kinds))]
             for value in values:
                 value = tuple(rng.sample(value, len(value)))
-                holds = known_paper(stair, value)
+                holds = known_paper(stair, behind, value)
                 self.assert_same(valid_holds(stair, value), holds)
                 told[holds] += 1
         self.assertGreater(min(told.values()), 100)
+        self.assertGreater(two, 5)
+
+    def test_two_names_by_the_words(self):
+        # What is so since b was above 0, and what will be, while a is.
+        for word in ("since", "until"):
+            stair = rows_with((word, 0, 1), ("not", 2), ("or", 2, 3))
+            kinds, behind = in_all_halls(stair)[1], known_behind(stair)
+            self.assertTrue(known_paper(stair, behind, kinds))
+            self.assert_same(valid_holds(stair, kinds), True)
+            for at in range(len(kinds)):
+                value = kinds[:at] + kinds[at + 1:]
+                self.assert_same(valid_holds(stair, value), known_paper(stair, behind, value))
+            self.assert_same(valid_holds(stair, kinds + (((0, 2), (True,), False),)), False)
+            self.assert_same(valid_holds(stair, kinds + (((0, None), (True,), False),)), False)
 
     def test_no_paper_of_what_fails(self):
         rng = source(432)

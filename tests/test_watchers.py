@@ -174,6 +174,7 @@ class TestSure(BellCase):
             self.assert_error(NoName, {"name": name}, sure_points, houses, ("x",), Stair(rows))
         self.assert_same(is_always(houses, (0, 1), Stair([("rises", "a")])), True)
         self.assert_error(NoName, {"name": "a"}, is_always, houses, (1, 1), Stair([("rises", "a")]))
+        self.assert_error(NoName, {"name": "x"}, is_always, houses, (1, 1), Stair([("rings", "x")]))
         self.assert_error(InvalidHeard, {"at": 0}, doubt_of, houses, ("x",), [("owl",)], Stair([("rises", "owl")]))
 
     def test_by_the_words(self):
