@@ -139,7 +139,7 @@ def passed_by(rooms, weave):
 
 
 def need_told(rooms, value):
-    """Raises InvalidRooms if no weave comes, or for any value that is no sequence, not empty, of unlike rooms' cells."""
+    """Raises InvalidRooms if no weave comes, or for any value that tells no cells of unlike rooms, at least one."""
     need_weaves(rooms)
     if not is_sequence(value) or len(value) == 0 or not all([is_told_cell(rooms, pair) for pair in value]):
         raise InvalidRooms(4)
