@@ -48,31 +48,29 @@ class Kinds:
         self.timed = [row for row in stair.rows if is_timed(row)]
 
     def first_ones(self):
-        """All kinds of the first stretch."""
+        """All kinds of the first stretch: until is free, since goes back to this stretch alone."""
         firsts = []
         for signs in all_rows((-1, 0, 1), len(self.names)):
             for guess in all_rows((False, True), len(self.timed)):
-                truths, bits = self.told_rows(signs, lambda row, at, truths: self.at_first(row, guess[at], truths))
-                firsts.append((signs, bits, not truths[-1]))
+                bits = [bit if row[0] == "until" else None for row, bit in zip(self.timed, guess)]
+                truths, told = self.told_rows(signs, bits)
+                firsts.append((signs, told, not truths[-1]))
         return firsts
 
-    def at_first(self, row, guess, truths):
-        """The bit of a row in the first stretch: until is free, since goes back to this stretch alone."""
-        return guess if row[0] == "until" else truths[row[1]] and truths[row[2]]
-
-    def told_rows(self, signs, bit_of):
-        """(truths of all rows, bits) by signs, and a function that tells the bit of a row by its number and truths."""
+    def told_rows(self, signs, bits):
+        """(truths of all rows, bits) by signs and bits; None for a bit stands for both rows that its row names."""
         truths = []
-        bits = []
+        told = []
         for row in self.rows:
             if is_timed(row):
-                bits.append(bit_of(row, len(bits), truths))
-                truths.append(bits[-1])
+                bit = bits[len(told)]
+                told.append(truths[row[1]] and truths[row[2]] if bit is None else bit)
+                truths.append(told[-1])
             elif row[0] == "above":
                 truths.append(self.is_above(row, signs))
             else:
                 truths.append(is_joined(row, truths))
-        return (truths, tuple(bits))
+        return (truths, tuple(told))
 
     def is_above(self, row, signs):
         """The truth of an atom by signs."""
@@ -82,8 +80,7 @@ class Kinds:
 
     def by_bits(self, signs, bits):
         """The truths of all rows by signs and bits."""
-        truths, _ = self.told_rows(signs, lambda row, at, truths: bits[at])
-        return truths
+        return self.told_rows(signs, bits)[0]
 
     def following(self, kind):
         """All (signs at the moment, kind behind it) that can follow a kind."""

@@ -76,7 +76,7 @@ class Weaver:
         level = [room for room, cell in enumerate(standing) if cell & 1 == 1]
         if level:
             return [standing_of(led_on(done, level))]
-        return [standing_at(done, level) for level, _, _ in self.levels_from(done)]
+        return [standing_at(done, step[0]) for step in self.levels_from(done)]
 
 
 def how_many(rooms):
