@@ -98,9 +98,10 @@ def kept_orders(ruled):
 def bound_pairs(ruled):
     """All pairs (i, j), ascending, i ahead of j in each order that keeps the run."""
     kept = keeping_orders(ruled)
+    numbers = list(range(len(ruled.rules)))
     pairs = []
     # The order as it is keeps the run, so only later rules can be behind in each.
-    for pair in combinations(list(range(len(ruled.rules))), 2):
+    for pair in combinations(numbers, 2):
         if all([order.index(pair[0]) < order.index(pair[1]) for order in kept]):
             pairs.append(pair)
     return tuple(pairs)

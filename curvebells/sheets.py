@@ -17,7 +17,7 @@ from curvebells.starts import alike_holds
 from curvebells.tables import table_holds
 from curvebells.turners import Game, hand_numbers, plan_holds, rest_of
 from curvebells.valid import valid_holds
-from curvebells.values import is_integer, is_lot_below, is_number, is_same, is_sequence
+from curvebells.values import is_integer, is_number, is_same, is_sequence
 from curvebells.wishes import Wish
 
 
@@ -105,9 +105,7 @@ def is_served(question, value):
     if not is_wished(question) or not isinstance(value, tuple) or len(value) != 2 or not isinstance(value[0], tuple):
         return False
     ruled, wish = question
-    if not is_lot_below(value[0], len(ruled.rules)) or not run_holds(ruled.only(value[0]), value[1]):
-        return False
-    return wish.takes(shown_tale(value[1]))
+    return run_holds(ruled.only(value[0]), value[1]) and wish.takes(shown_tale(value[1]))
 
 
 def is_unserved(question, value):

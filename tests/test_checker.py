@@ -226,6 +226,8 @@ class TestByHand(BellCase):
         self.check("zeros", ((-2, 0, 1), 2), (((0, 1),), ((-1, 1), (1, 1))), ((), ((5, 1),), [(0, 1)]))
         self.check("zeros", ((-2, 0, 1), 1), (), (((0, 1),),))
         self.check("zeros", ((-2, 0, 1), True), (), (((0, 1),),))
+        self.check("zeros", ((-1, 1), 1), (((0, 1),), ((1, 1),)), ((),))
+        self.check("zeros", ((-1, 1), True), (), (((0, 1),), ((1, 1),)))
         # Not plain: twice this curve, a constant, a double zero.
         for curve in ((-4, 0, 2), (1,), (), (1, -2, 1)):
             for number in (0, 1, 2):
@@ -272,6 +274,11 @@ class TestByHand(BellCase):
         other = Ruled(Hall.read(EXAMPLE.text().replace("6", "7")), RULED.rules)
         self.check("hands", (RULED, other), (), (paper, ()))
         self.check("hands", (RULED, Ruled(EXAMPLE)), (), (paper,))
+        # Twice as high, twice as fast: all rings alike, but it is another hall.
+        double = Hall.read(EXAMPLE.text().replace("0 1", "0 2").replace("10 -1", "20 -2").replace("t 6", "t 12").replace("t 3", "t 6"))
+        double = Ruled(double, RULED.rules)
+        self.assert_same(alike_hands(RULED, double), None)
+        self.check("hands", (RULED, double), (), (paper, alike_paper(RULED, double)))
 
     def test_games(self):
         dong = wish_rings("dong")
@@ -325,6 +332,9 @@ class TestByHand(BellCase):
         self.check("common", (HOUSES, ear, some[:2], (0, 1)), (), (some, some[:2]))
         self.check("common", (HOUSES, (("x", "y"),), some, (0, 1)), (((0, 1),), ((0, 1), (1, 2))), (((0, 2),),))
         both = (("x",), ("y",))
+        # Closed for the one, and not for the other.
+        self.check("common", (HOUSES, both, some, (0, 1)), (), (some,))
+        self.check("common", (HOUSES, both[::-1], some, (0, 1)), (), (some,))
         self.check("chain", (HOUSES, both, some, (0, 1)), (((1, (0, 0)),), ((0, (1, 2)), (1, (1, 1))), ((0, (0, 1)), (1, (1, 0)))),
                    ((), ((0, (0, 2)),), ((0, (0, 0)),), ((2, (0, 0)),), ((True, (0, 0)),), ((1, (0, 0), 0),), ([1, (0, 0)],),
                     [(1, (0, 0))], ((1, [0, 0]),), ((1, (0, 9)),), ((-1, (0, 0)),), None, ((1, (1, 1)),)))

@@ -94,7 +94,7 @@ class TestDesk(BellCase):
                      "redo ", "hear", "hear ", "hear ding ", "hear  ding", "hear 1", "hear Ding", "hear ding, dong", "noticed ",
                      "noticed ding", "text ", "text 1", "moment", "moment ", "moment ding", "moment ding ", "moment ding 0",
                      "moment ding 100", "moment ding 01", "moment ding -1", "moment ding +1", "moment ding x", "moment 1 1",
-                     "moment Ding 1", "moment ding 1 1", "moment ding  1", "moment ding 1 ", "", " ", "\n", "say tale",
+                     "moment Ding 1", "moment ding 1 1", "moment ding  1", "moment ding 1 ", "", " ", "\n", "say tale", "moments ding 1", "xyz ding 1", "ding 1",
                      "drop bell ding", "moment ding \u0661", "tale\n", "moment dingdings 1")
             for command in ANY_VALUES + wrong + (["tale"], ("tale",), b"tale"):
                 self.assert_error(InvalidCommand, {}, desk.say, command)

@@ -215,8 +215,8 @@ class TestAlike(BellCase):
             told[is_alike] += 1
             at = rng.randrange(len(value))
             less = value[:at] + value[at + 1:]
-            wanted = value[at][0] != value[at][1] and is_alike and led_pairs(one, other, less)[0] == set(less)
-            self.assert_same(alike_holds(one, other, less), wanted)
+            met, is_alike = led_pairs(one, other, less)
+            self.assert_same(alike_holds(one, other, less), value[at][0] != value[at][1] and is_alike and met == set(less))
         self.assertGreater(min(told.values()), 8)
 
 
