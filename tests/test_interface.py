@@ -164,6 +164,40 @@ class TestInterface(unittest.TestCase):
             self.assertEqual(str(inspect.signature(made.read)), parameters)
 
 
+class TestObjects(unittest.TestCase):
+
+    def all_objects(self):
+        """An object of each class, by the name of the class."""
+        made = {word: getattr(module_of(name), word) for name, word, _ in CLASSES}
+        hall = made["Hall"].read("thing cat\nway run 0 1\nbell ding at cat 2 any")
+        handle, ruled = made["Handle"](hall, "cat", 1), made["Ruled"](hall)
+        arguments = {
+            "Wish": (1, (), ()), "Stair": ([("rises", "cat")],), "Hall": (hall.things, hall.bells), "Handle": (hall, "cat", 1),
+            "Ruled": (hall,), "Table": ([(0, 1)],), "Course": (hall,), "Orders": ([(0, 1)],), "Band": (hall,), "Sweep": (handle,),
+            "Game": (hall, [("ann", ["cat"], [])]), "Rooms": ([("a", ())],), "Run": (ruled,), "Live": (hall,), "Desk": (),
+            "Book": (),
+        }
+        return {word: made[word](*arguments[word]) for word in made}
+
+    def test_not_iterable_and_without_length(self):
+        for word, value in self.all_objects().items():
+            with self.assertRaises(TypeError):
+                iter(value)
+            if word != "Table":
+                with self.assertRaises(TypeError):
+                    len(value)
+        self.assertEqual(len(self.all_objects()["Table"]), 1)
+
+    def test_equal_to_nothing_else(self):
+        ones, others = self.all_objects(), self.all_objects()
+        for word, value in ones.items():
+            for name, other in others.items():
+                self.assertEqual(value == other, word == name and word in ("Wish", "Stair", "Rooms"))
+            for other in (None, 0, "", (), [], word):
+                self.assertFalse(value == other)
+                self.assertTrue(value != other)
+
+
 class TestErrors(unittest.TestCase):
 
     def test_classes(self):

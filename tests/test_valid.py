@@ -119,6 +119,17 @@ def known_behind(stair):
     return {kind: [behind for behind in kinds if known_follows(stair, kind, behind)] for kind in kinds}
 
 
+def known_closure(behind, kinds):
+    """Some kinds, and all that follows."""
+    met, todo = {}, list(kinds)
+    while todo:
+        kind = todo.pop()
+        if kind not in met:
+            met[kind] = True
+            todo += behind[kind]
+    return tuple(met)
+
+
 def known_paper(stair, behind, value):
     """Whether a tuple of kinds is a paper, by the words of [41]."""
     firsts = [kind for kind in behind
@@ -300,39 +311,52 @@ class TestPapers(BellCase):
             value = told[1][:at] + told[1][at + 1:]
             self.assert_same(valid_holds(stair, value), False)
 
+    def check_papers(self, rng, stair):
+        """Papers by the words: what comes, less, more, and more with all that follows; how many hold."""
+        behind, answer = known_behind(stair), in_all_halls(stair)
+        kinds = answer[1] if answer[0] else tuple(all_kinds(stair))
+        rest = [kind for kind in all_kinds(stair) if kind not in kinds]
+        closed = [known_closure(behind, kinds + (kind,)) for kind in rest]
+        values = [kinds] + closed + [kinds + (kind,) for kind in rest]
+        for value in [kinds] + closed[:3]:
+            values += [value[:at] + value[at + 1:] for at in range(len(value))]
+        held = 0
+        for value in values:
+            value = tuple(rng.sample(value, len(value)))
+            holds = known_paper(stair, behind, value)
+            self.assert_same(valid_holds(stair, value), holds)
+            held += holds
+        return held, len(values) - held
+
     def test_by_the_words(self):
         rng = source(433)
-        told, two = {True: 0, False: 0}, 0
+        told = [0, 0]
         for _ in range(90):
             stair = some_free(rng, 5)
-            if len(all_kinds(stair)) > 36:
-                continue
-            two += len(names_of(stair)) == 2 and len(all_kinds(stair)) == 36
-            answer, behind = in_all_halls(stair), known_behind(stair)
-            kinds = answer[1] if answer[0] else tuple(all_kinds(stair))
-            rest = [kind for kind in all_kinds(stair) if kind not in kinds]
-            values = [kinds] + [kinds + (kind,) for kind in rest]
-            values += [kinds[:at] + kinds[at + 1:] for at in range(len(kinds))]
-            for value in values:
-                value = tuple(rng.sample(value, len(value)))
-                holds = known_paper(stair, behind, value)
-                self.assert_same(valid_holds(stair, value), holds)
-                told[holds] += 1
-        self.assertGreater(min(told.values()), 100)
-        self.assertGreater(two, 5)
+            if len(all_kinds(stair)) <= 36:
+                held, left = self.check_papers(rng, stair)
+                told = [told[0] + held, told[1] + left]
+        self.assertGreater(min(told), 100)
 
-    def test_two_names_by_the_words(self):
-        # What is so since b was above 0, and what will be, while a is.
-        for word in ("since", "until"):
-            stair = rows_with((word, 0, 1), ("not", 2), ("or", 2, 3))
-            kinds, behind = in_all_halls(stair)[1], known_behind(stair)
-            self.assertTrue(known_paper(stair, behind, kinds))
-            self.assert_same(valid_holds(stair, kinds), True)
-            for at in range(len(kinds)):
-                value = kinds[:at] + kinds[at + 1:]
-                self.assert_same(valid_holds(stair, value), known_paper(stair, behind, value))
-            self.assert_same(valid_holds(stair, kinds + (((0, 2), (True,), False),)), False)
-            self.assert_same(valid_holds(stair, kinds + (((0, None), (True,), False),)), False)
+    def test_stairs_within_stairs_by_the_words(self):
+        # Until within since, and the other way about; of two names, with either of both.
+        rng, one = source(434), [("above", "a", 0), ("above", 0, "a")]
+        for word, other in (("until", "since"), ("since", "until"), ("until", "until"), ("since", "since")):
+            for i, j in ((2, 2), (0, 2), (2, 0), (1, 2), (2, 1)):
+                self.check_papers(rng, Stair(one + [(word, 0, 1), (other, i, j), ("not", 3), ("or", 3, 4)]))
+                self.check_papers(rng, Stair(one + [(word, 0, 1), (other, i, j)]))
+        for word in ("until", "since"):
+            for names in (("a", "b"), ("b", "a")):
+                two = [("above", names[0], 0), ("above", 0, names[1])]
+                self.check_papers(rng, Stair(two + [(word, 0, 1), ("not", 2), ("or", 2, 3)]))
+                self.check_papers(rng, Stair(two + [("not", 0), (word, 2, 1), ("and", 0, 3), ("not", 4), ("or", 4, 5)]))
+
+    def test_two_names_by_hand(self):
+        kinds = in_all_halls(rows_with(("until", 0, 1), ("not", 2), ("or", 2, 3)))[1]
+        stair = rows_with(("until", 0, 1), ("not", 2), ("or", 2, 3))
+        self.assert_same(valid_holds(stair, kinds), True)
+        self.assert_same(valid_holds(stair, kinds + (((0, 2), (True,), False),)), False)
+        self.assert_same(valid_holds(stair, kinds + (((0, None), (True,), False),)), False)
 
     def test_no_paper_of_what_fails(self):
         rng = source(432)
