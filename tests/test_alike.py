@@ -11,10 +11,12 @@ from curvebells.errors import InvalidHeard, InvalidRooms
 from curvebells.halls import Hall, rewound_hall
 from curvebells.rooms import Rooms
 from curvebells.rows import ring_row, thin_tale
+from curvebells.watchers import never_known, when_known
 from tests.helpers import ANY_VALUES, BellCase, picture, source
 from tests.test_halls import some_hall
 from tests.test_rooms import some_rooms
 from tests.test_stamps import coming_rooms, coming_weaves, has_road, is_known_road, places_in, steps_of
+from tests.test_watchers import some_houses, some_watchers
 
 ONE, OTHER = (("x",), ("y",), ("x",)), (("x",), ("x",), ("y",))
 A1, A2, B1, B2 = ("a", 1), ("a", 2), ("b", 1), ("b", 2)
@@ -230,6 +232,27 @@ class TestClocks(BellCase):
             self.assert_same(clock_pairs(row, other), tuple((one[0], two[0]) for one, two in zip(row, other)))
             if row:
                 self.assert_same(clock_pairs(row, other[1:]), None)
+
+
+class TestHouses(BellCase):
+
+    def test_who_never_knows(self):
+        # Of two houses one's heard tale begins the other's longer one just where names part them, but not surely.
+        rng = source(485)
+        told = {True: 0, False: 0}
+        for _ in range(80):
+            houses, watcher = some_houses(rng), some_watchers(rng)[0]
+            tales = [band.tale for band in houses]
+            parted = [(i, j) for i, j in itertools.combinations(range(len(tales)), 2)
+                      if any(set(lot) <= set(watcher) for lot in parting_lots(tales[i], tales[j]))]
+            surely = [(i, j) for i, j in parted
+                      if any(set(lot) <= set(watcher) for lot in parting_lots(tales[i], tales[j], surely=True))]
+            never = never_known(houses, watcher)
+            self.assertEqual(sorted(tuple(sorted(pair)) for pair in never), [pair for pair in parted if pair not in surely])
+            known = when_known(houses, watcher)
+            self.assertEqual([at for at, many in enumerate(known) if many is None], sorted({house for house, _ in never}))
+            told[bool(never)] += 1
+        self.assertGreater(min(told.values()), 10)
 
 
 class TestRooms(BellCase):
