@@ -121,6 +121,19 @@ def is_value_of(kind, value):
     return any(value == one and shape_of(value) == shape_of(one) for one in MORE_VALUES.get(kind, ()))
 
 
+def bent_leaves(value):
+    """The value with one bool for an integer, or the other way about, or one list for a tuple, wherever that is."""
+    if isinstance(value, tuple):
+        yield list(value)
+        for at, one in enumerate(value):
+            for bent in bent_leaves(one):
+                yield value[:at] + (bent,) + value[at + 1:]
+    elif isinstance(value, bool):
+        yield int(value)
+    elif isinstance(value, int) and value in (0, 1):
+        yield bool(value)
+
+
 class TestKinds(BellCase):
 
     def test_each_kind(self):
@@ -195,6 +208,14 @@ class TestKinds(BellCase):
                     self.assert_same(sheet_holds(kind, told, value), at in SEQUENCES.get(kind, ()))
             if isinstance(value, tuple):
                 self.assert_same(sheet_holds(kind, question, list(value)), False)
+
+    def test_bools_and_lists_within(self):
+        for kind, question, value in SHEETS:
+            for bent in bent_leaves(value):
+                self.assert_same(sheet_holds(kind, question, bent), False)
+            for bent in bent_leaves(question):
+                told = isinstance(bent, tuple) and any(isinstance(bent[at], list) for at in SEQUENCES.get(kind, ()))
+                self.assert_same(sheet_holds(kind, bent, value), told)
 
     def test_wrong_sheets(self):
         self.assert_same(wrong_sheets(SHEETS), ())
