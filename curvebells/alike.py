@@ -33,7 +33,7 @@ def clock_pairs(row, other):
 
 def ordered_lots(names):
     """All lots of some names, the empty one too: fewer names first, then ascending."""
-    placed = sorted([(len(lot), lot) for lot in [(), *lots_among(names)]])
+    placed = sorted([(len(lot), lot) for lot in [()] + lots_among(names)])
     return [lot for _, lot in placed]
 
 

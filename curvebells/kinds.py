@@ -15,7 +15,7 @@ def need_free(stair):
     for at, row in enumerate(stair.rows):
         if not is_free(row):
             raise InvalidSaying(at)
-        names = as_lot([*names, *names_in(row)])
+        names = as_lot(list(names) + names_in(row))
         timed += int(is_timed(row))
         if len(names) > MOST_NAMES or timed > MOST_TIMED:
             raise InvalidSaying(at)

@@ -80,7 +80,7 @@ def read_deed(text):
     if words[0] == "when":
         return told_deed("when", [read_rule(words)])
     if words[0] in ("thing", "way", "bend"):
-        return told_deed(words[0], [*read_names(words[1:3], 2), read_words(words[3:])])
+        return told_deed(words[0], read_names(words[1:3], 2) + [read_words(words[3:])])
     if words[0] == "mode":
         return told_deed("mode", read_mode(words[1:]))
     if words[0] != "drop" or len(words) < 3:

@@ -12,6 +12,11 @@ def is_lot(value):
     return all([one < other for one, other in zip(value, value[1:])])
 
 
+def is_name_lot(value):
+    """Whether any value is a lot of names, perhaps empty."""
+    return is_lot(value) or (isinstance(value, tuple) and len(value) == 0)
+
+
 def is_tale(value):
     """Whether any value is a tale: a tuple of such lots."""
     return isinstance(value, tuple) and all([is_lot(lot) for lot in value])

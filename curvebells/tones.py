@@ -5,13 +5,13 @@ from itertools import combinations
 from curvebells.alike import bells_of, need_told, ordered_lots, parting_lots
 from curvebells.errors import InvalidSize
 from curvebells.rows import thin_tale
-from curvebells.silent import is_lot, need_tales
+from curvebells.silent import is_name_lot, need_tales
 from curvebells.values import as_lot, is_number
 
 
 def need_bells(bells):
     """Raises InvalidSize for any value that is no ascending tuple of unlike names, perhaps empty."""
-    if not is_lot(bells) and not (isinstance(bells, tuple) and len(bells) == 0):
+    if not is_name_lot(bells):
         raise InvalidSize("bells")
 
 

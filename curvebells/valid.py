@@ -17,7 +17,8 @@ def in_all_halls(stair):
     at = 0
     while at < len(order):
         if kinds.is_lost(order[at]):
-            return (False, *failing_hall(stair, kinds.names, signs_to(ahead, order[at])))
+            hall, moment = failing_hall(stair, kinds.names, signs_to(ahead, order[at]))
+            return (False, hall, moment)
         for there, kind in kinds.following(order[at]):
             if kind not in ahead:
                 ahead[kind] = (order[at], there)

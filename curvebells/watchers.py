@@ -4,7 +4,7 @@ from curvebells.errors import InvalidHeard, InvalidSize
 from curvebells.places import zero_of
 from curvebells.rows import begins_with, thin_tale
 from curvebells.sayings import need_names
-from curvebells.silent import is_lot
+from curvebells.silent import is_name_lot
 from curvebells.tables import cell_place
 from curvebells.truths import truth_line
 from curvebells.values import is_number, is_sequence
@@ -28,20 +28,15 @@ def need_point(houses, value):
         raise InvalidHeard(0)
 
 
-def is_watcher(value):
-    """Whether any value is a watcher: a lot of names, perhaps empty."""
-    return is_lot(value) or (isinstance(value, tuple) and len(value) == 0)
-
-
 def need_watcher(value):
-    """Raises InvalidSize for any value that is no watcher."""
-    if not is_watcher(value):
+    """Raises InvalidSize for any value that is no watcher: no lot of names, perhaps empty."""
+    if not is_name_lot(value):
         raise InvalidSize("watcher")
 
 
 def need_watchers(value):
     """Raises InvalidSize for any value that is no sequence of watchers, or an empty one."""
-    if not is_sequence(value) or len(value) == 0 or not all([is_watcher(watcher) for watcher in value]):
+    if not is_sequence(value) or len(value) == 0 or not all([is_name_lot(watcher) for watcher in value]):
         raise InvalidSize("watchers")
 
 
