@@ -270,7 +270,7 @@ class TestServing(BellCase):
     def test_by_the_runs(self):
         rng = source(402)
         told = {True: 0, False: 0}
-        for _ in range(150):
+        for _ in range(90):
             ruled, wish = some_or_lively(rng, 4), some_tale_wish(rng)
             serving = [lot for lot in all_lots(ruled) if wish.takes(Run(ruled.only(lot)).tale)]
             wanted = (serving[0], Run(ruled.only(serving[0])).tale) if serving else None

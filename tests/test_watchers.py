@@ -134,7 +134,7 @@ class TestHeard(BellCase):
 
     def test_by_the_words(self):
         rng = source(440)
-        for _ in range(60):
+        for _ in range(30):
             houses = some_houses(rng)
             points = known_points(houses)
             self.assert_same(house_points(houses), tuple(points))
